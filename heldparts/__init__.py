@@ -1,0 +1,1 @@
+"""Edits of what waits for a disk, and who could ever notice them."""

@@ -1,0 +1,67 @@
+"""The texts of stores."""
+
+from heldparts.errors import InvalidText
+from heldparts.forms import is_change, is_content
+from heldparts.numerals import integer_in, numeral
+
+
+def cell_text(cell):
+    """A cell as B.P."""
+    return numeral(cell[0]) + "." + numeral(cell[1])
+
+
+def write_text(cell, value):
+    """A cell with a value as B.P=V."""
+    return cell_text(cell) + "=" + numeral(value)
+
+
+def store_text(disk, changes, ties):
+    """The text of a store with these attributes."""
+    cells = [f"cell {cell_text(cell)} {numeral(value)}" for cell, value in disk]
+    waiting = []
+    for name, writes in changes:
+        waiting.append(" ".join(["change", name] + [write_text(cell, value) for cell, value in writes]))
+    tied = [f"tie {later} {earlier}" for later, earlier in ties]
+    return "\n".join(cells + waiting + tied)
+
+
+def cell_in(word):
+    """The cell that a word B.P writes; for any other word no cell."""
+    block, _, place = word.partition(".")
+    return integer_in(block), integer_in(place)
+
+
+def write_in(word):
+    """The cell and value that a word B.P=V writes; for any other word no cell with a value."""
+    cell, _, value = word.partition("=")
+    return cell_in(cell), integer_in(value)
+
+
+def words_by_kind(text):
+    """The words of the lines of a text behind their first words, for each first word."""
+    found = {"cell": [], "change": [], "tie": []}
+    for line in text.split("\n"):
+        kind, *words = line.split(" ")
+        if kind not in found or len(words) < 2 or (kind != "change" and len(words) > 2):
+            raise InvalidText()
+        found[kind].append(words)
+    return found
+
+
+def parts_in(text):
+    """The disk, the changes and the ties that a text speaks of, if they are a content, changes and pairs of words.
+
+    Where the lines stand, and whether the ties are those of a store, is not looked at.
+    """
+    if not isinstance(text, str):
+        raise InvalidText()
+    if text == "":
+        return (), (), ()
+    found = words_by_kind(text)
+    disk = tuple([(cell_in(cell), integer_in(value)) for cell, value in found["cell"]])
+    changes = []
+    for name, *writes in found["change"]:
+        changes.append((name, tuple([write_in(word) for word in writes])))
+    if not (is_content(disk) and all([is_change(change) for change in changes])):
+        raise InvalidText()
+    return disk, tuple(changes), tuple([(later, earlier) for later, earlier in found["tie"]])
