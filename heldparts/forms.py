@@ -30,23 +30,45 @@ def is_write(thing):
 
 def is_content(thing):
     """Whether a value is a content."""
-    if not (isinstance(thing, tuple) and all([is_write(part) for part in thing])):
+    if not isinstance(thing, tuple) or (len(thing) > 0 and not is_write(thing[0])):
         return False
-    return ascends([cell for cell, _ in thing])
+    # Contents can be long, so this is one loop that calls no function of the package and ends at the first fault.
+    last_block = last_place = -1
+    for part in thing:
+        match part:
+            # The pattern alone takes lists, too.
+            case ((block, place), value) if isinstance(part, tuple) and isinstance(part[0], tuple):
+                if not isinstance(place, int) or not isinstance(value, int) or value is True or value is False:
+                    return False
+                if block != last_block:
+                    if not isinstance(block, int) or block < last_block or place < 0 or place is False:
+                        return False
+                    last_block = block
+                elif place <= last_place:
+                    return False
+                # True and False pass as the integers 1 and 0 up to here.
+                if block is True or block is False or place is True:
+                    return False
+                last_place = place
+            case _:
+                return False
+    return True
 
 
 def is_name(thing):
     """Whether a value is a name."""
     if not (isinstance(thing, str) and 1 <= len(thing) <= 8):
         return False
-    return all([letter in LETTERS for letter in thing])
+    return thing.isascii() and thing.isalpha() and thing.islower()
 
 
 def is_change(thing):
     """Whether a value is a change."""
-    if not (is_pair(thing) and is_name(thing[0]) and is_content(thing[1])):
+    if not (is_pair(thing) and is_name(thing[0]) and is_content(thing[1]) and len(thing[1]) > 0):
         return False
-    return len({cell[0] for cell, _ in thing[1]}) == 1
+    # The cells ascend, so if the first and the last one are in one block, all are.
+    first, last = thing[1][0][0], thing[1][-1][0]
+    return first[0] == last[0]
 
 
 def name_of(number):
