@@ -18,6 +18,16 @@ def ascends(row):
     return all([row[at] < row[at + 1] for at in range(len(row) - 1)])
 
 
+def merged(parts, others):
+    """Two tuples as one, ascending."""
+    return tuple(sorted(parts + others))
+
+
+def are_names_in(thing, store):
+    """Whether a value is an ascending tuple of names of changes of a store."""
+    return isinstance(thing, tuple) and all([name in store for name in thing]) and ascends(thing)
+
+
 def is_cell(thing):
     """Whether a value is a cell."""
     return is_pair(thing) and all([is_int(part) and part >= 0 for part in thing])
@@ -69,6 +79,30 @@ def is_change(thing):
     # The cells ascend, so if the first and the last one are in one block, all are.
     first, last = thing[1][0][0], thing[1][-1][0]
     return first[0] == last[0]
+
+
+def are_changes(thing):
+    """Whether a value is a tuple of changes, ascending by distinct names."""
+    if not isinstance(thing, tuple):
+        return False
+    last = ""
+    for part in thing:
+        if not is_change(part) or part[0] <= last:
+            return False
+        last = part[0]
+    return True
+
+
+def are_ties(thing):
+    """Whether a value is an ascending tuple of pairs of names."""
+    if not isinstance(thing, tuple):
+        return False
+    last = ("", "")
+    for part in thing:
+        if not (is_pair(part) and is_name(part[0]) and is_name(part[1])) or part <= last:
+            return False
+        last = part
+    return True
 
 
 def name_of(number):

@@ -1,10 +1,14 @@
 """Integers of any length in decimal; Python itself refuses to convert those of thousands of digits at once."""
 
 DIGITS = "0123456789"
+# Most integers are short, and Python converts these at once.
+SHORT = 1000000000
 
 
 def numeral(number):
     """An integer in decimal."""
+    if -SHORT < number < SHORT:
+        return str(number)
     pieces = []
     rest = abs(number)
     while rest >= 10 ** 64:

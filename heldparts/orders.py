@@ -12,6 +12,14 @@ def places_in(mask):
     return places
 
 
+def direct_masks(places, ties):
+    """For each place the mask of those that the ties themselves put before it."""
+    direct = [0] * len(places)
+    for later, earlier in ties:
+        direct[places[later]] = direct[places[later]] | (1 << places[earlier])
+    return direct
+
+
 def ordered(direct):
     """The places, each one after all that it is directly tied behind; those in a ring or behind one are missing."""
     earlier = [places_in(mask) for mask in direct]
@@ -57,3 +65,22 @@ def closed(direct, order):
         before[at] = direct[at] | far
         near[at] = direct[at] & ~far
     return before, near
+
+
+def reached(direct):
+    """For each place the mask of all that stand before it by one tie or several, also where ties close rings."""
+    order = ordered(direct)
+    before, _ = closed(direct, order)
+    there = {at: True for at in order}
+    stuck = [at for at in range(len(direct)) if at not in there]
+    for at in stuck:
+        before[at] = direct[at]
+        for place in places_in(direct[at]):
+            if place in there:
+                before[at] = before[at] | before[place]
+    # All walks over stuck places, by those over the first of them, the first two and so on.
+    for middle in stuck:
+        for at in stuck:
+            if (before[at] >> middle) & 1 == 1:
+                before[at] = before[at] | before[middle]
+    return before

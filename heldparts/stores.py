@@ -1,7 +1,7 @@
 """Stores: a disk, the changes that wait for it, and the order in which they may reach it."""
 
 from heldparts.errors import InvalidText, NoStore, NoWrite, Ring
-from heldparts.orders import closed, ordered, places_in, ring_in
+from heldparts.orders import closed, direct_masks, ordered, places_in, ring_in
 from heldparts.texts import parts_in, store_text
 
 
@@ -21,14 +21,6 @@ def check_names(changes, ties):
         raise NoStore("name")
 
 
-def direct_masks(places, ties):
-    """For each place the mask of those that the ties themselves put before it."""
-    direct = [0] * len(places)
-    for later, earlier in ties:
-        direct[places[later]] = direct[places[later]] | (1 << places[earlier])
-    return direct
-
-
 def rows_of(disk, changes):
     """The names that write each cell, where the changes come in an order in which they may be written."""
     found = {}
@@ -37,6 +29,17 @@ def rows_of(disk, changes):
     for name, writes in changes:
         for cell, _ in writes:
             found[cell].append(name)
+    return {cell: tuple(found[cell]) for cell, _ in disk}
+
+
+def values_of(disk, changes):
+    """The values that each cell has one after another, where the changes come in such an order, too."""
+    found = {}
+    for cell, value in disk:
+        found[cell] = [value]
+    for _, writes in changes:
+        for cell, value in writes:
+            found[cell].append(value)
     return {cell: tuple(found[cell]) for cell, _ in disk}
 
 
@@ -53,18 +56,17 @@ class Store:
         self.changes = tuple(sorted(changes))
         self.names = tuple([name for name, _ in self.changes])
         self.blocks = tuple(sorted({writes[0][0][0] for _, writes in self.changes}))
-        self._places = {name: at for at, name in enumerate(self.names)}
-        self._content = {cell: value for cell, value in disk}
-        self._written = {name: {cell: value for cell, value in writes} for name, writes in self.changes}
-        direct = direct_masks(self._places, ties)
+        self.places = {name: at for at, name in enumerate(self.names)}
+        direct = direct_masks(self.places, ties)
         order = ordered(direct)
         if len(order) < len(direct):
             raise Ring(tuple([self.names[at] for at in ring_in(direct, order)]))
-        self._before, near = closed(direct, order)
+        self.masks, near = closed(direct, order)
         self._rows = rows_of(disk, [self.changes[at] for at in order])
+        self._values = values_of(disk, [self.changes[at] for at in order])
         self._check_rows()
         self.ties = tuple([(name, self.names[at]) for name, mask in zip(self.names, near) for at in places_in(mask)])
-        self.memory = self._left_by(self.names)
+        self.memory = tuple([(cell, self._values[cell][-1]) for cell in self.cells])
         self.text = store_text(self.disk, self.changes, self.ties)
 
     @classmethod
@@ -89,7 +91,7 @@ class Store:
         return len(self.changes)
 
     def __contains__(self, x):
-        return isinstance(x, str) and x in self._places
+        return isinstance(x, str) and x in self.places
 
     def __eq__(self, other):
         if not isinstance(other, Store):
@@ -114,19 +116,23 @@ class Store:
 
     def writes(self, name):
         """The writes of a change."""
-        return self.changes[self._places[name]][1]
+        return self.changes[self.places[name]][1]
 
     def row(self, cell):
         """The names of the changes that write a cell, in their order."""
         return self._rows[cell]
 
+    def row_values(self, cell):
+        """The values that a cell has with none of its row, the first one, the first two and so on."""
+        return self._values[cell]
+
     def is_before(self, earlier, later):
         """Whether one change stands before another one."""
-        return (self._before[self._places[later]] >> self._places[earlier]) & 1 == 1
+        return (self.masks[self.places[later]] >> self.places[earlier]) & 1 == 1
 
     def ahead_of(self, name):
         """The names of the changes that stand before a change, ascending."""
-        return tuple([self.names[at] for at in places_in(self._before[self._places[name]])])
+        return tuple([self.names[at] for at in places_in(self.masks[self.places[name]])])
 
     def behind(self, name):
         """The names of the changes that stand behind a change, ascending."""
@@ -134,25 +140,14 @@ class Store:
 
     def is_ghost(self, name):
         """Whether each value that a change writes is the value of that cell just before it."""
-        return all([self._value_before(name, cell) == value for cell, value in self.writes(name)])
-
-    def _value_before(self, name, cell):
-        row = self._rows[cell]
-        at = row.index(name)
-        if at == 0:
-            return self._content[cell]
-        return self._written[row[at - 1]][cell]
+        return all([self._values[cell][self._rows[cell].index(name)] == value for cell, value in self.writes(name)])
 
     def _left_by(self, names):
         """The content of the disk when exactly these changes, a lot, are on it."""
-        there = {name: True for name in names}
         content = []
-        for cell, value in self.disk:
-            left = value
-            for name in self._rows[cell]:
-                if name in there:
-                    left = self._written[name][cell]
-            content.append((cell, left))
+        for cell in self.cells:
+            count = len([name for name in self._rows[cell] if name in names])
+            content.append((cell, self._values[cell][count]))
         return tuple(content)
 
     def with_change(self, name, writes, *after):

@@ -1,4 +1,4 @@
-"""The texts of stores."""
+"""The texts of stores and of views."""
 
 from heldparts.errors import InvalidText
 from heldparts.forms import is_change, is_content
@@ -23,6 +23,20 @@ def store_text(disk, changes, ties):
         waiting.append(" ".join(["change", name] + [write_text(cell, value) for cell, value in writes]))
     tied = [f"tie {later} {earlier}" for later, earlier in ties]
     return "\n".join(cells + waiting + tied)
+
+
+def view_text(entries):
+    """The text of a view with these entries."""
+    values = [[numeral(value) for _, value in entry[0]] for entry in entries]
+    widths = [max([len(word) for word in column]) for column in zip(*values)]
+    kept = [" ".join(entry[1]) for entry in entries]
+    width = max([len(names) for names in kept])
+    lines = []
+    for words, names, entry in zip(values, kept, entries):
+        filled = " ".join([word.rjust(wide) for word, wide in zip(words, widths)])
+        done = " ".join([cell_text(cell) for cell in entry[2]])
+        lines.append(f"{filled} | {names.ljust(width)} | {done}")
+    return "\n".join(lines)
 
 
 def cell_in(word):
