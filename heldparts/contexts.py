@@ -6,23 +6,24 @@ from heldparts.orders import direct_masks, reached
 from heldparts.stores import Store
 
 
-def writers_of(changes):
-    """The names that write each cell."""
+def shared_rows(changes):
+    """For each cell that several changes write their indexes."""
     found = {}
-    for name, writes in changes:
+    for at, (_, writes) in enumerate(changes):
         for cell, _ in writes:
-            found.setdefault(cell, []).append(name)
-    return found
+            found.setdefault(cell, []).append(at)
+    return [found[cell] for cell in found if len(found[cell]) > 1]
 
 
 def rows_are_tied(changes, ties):
     """Whether of two added changes that write the same cell one comes behind the other by ties of added ones alone."""
+    rows = shared_rows(changes)
+    if len(rows) == 0:
+        return True
     places = {name: at for at, (name, _) in enumerate(changes)}
     own = [(later, earlier) for later, earlier in ties if later in places and earlier in places]
     masks = reached(direct_masks(places, own))
-    found = writers_of(changes)
-    for cell in found:
-        row = [places[name] for name in found[cell]]
+    for row in rows:
         for at, place in enumerate(row):
             if not all([((masks[place] >> other) | (masks[other] >> place)) & 1 == 1 for other in row[:at]]):
                 return False

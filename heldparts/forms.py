@@ -30,7 +30,9 @@ def are_names_in(thing, store):
 
 def is_cell(thing):
     """Whether a value is a cell."""
-    return is_pair(thing) and all([is_int(part) and part >= 0 for part in thing])
+    if not (is_pair(thing) and is_int(thing[0]) and is_int(thing[1])):
+        return False
+    return thing[0] >= 0 and thing[1] >= 0
 
 
 def is_write(thing):

@@ -72,20 +72,24 @@ def noticed_by(edit, context, *, limit=500):
     return None
 
 
+def written_part(disk, changes):
+    """The part of a content whose cells some change writes."""
+    written = {cell: True for _, writes in changes for cell, _ in writes}
+    return tuple([part for part in disk if part[0] in written])
+
+
 def without(stranger, name):
     """What remains of a stranger of the third kind without one of its added changes."""
     word, (disk, changes, ties), lot = stranger
     rest = tuple([change for change in changes if change[0] != name])
-    written = {cell: True for _, writes in rest for cell, _ in writes}
-    context = (
-        tuple([part for part in disk if part[0] in written]), rest, tuple([tie for tie in ties if name not in tie]))
+    context = (written_part(disk, rest), rest, tuple([tie for tie in ties if name not in tie]))
     return word, context, tuple([other for other in lot if other != name])
 
 
 def pruned(edit, stranger):
     """A stranger of the third kind without all that it does not need."""
-    # No change has no name, so this leaves out only the cells that nothing writes.
-    rest = without(stranger, "")
+    word, (disk, changes, ties), lot = stranger
+    rest = (word, (written_part(disk, changes), changes, ties), lot)
     more = True
     while more:
         more = False

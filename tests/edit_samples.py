@@ -67,6 +67,10 @@ def changed(source, store, kept, way):
         return store.tied(*source.sample(store.names, 2))
     if way == "untie" and store.ties:
         return untied(store, source.choice(store.ties))
+    if way == "add" and store.cells:
+        name = source.choice([name for name in NAMES + ("m", "ac") if name not in store])
+        cell, value = source.choice(store.memory)
+        return store.with_change(name, ((cell, value),))
     if way == "write" and free:
         name = source.choice(free)
         writes = tuple((cell, source.randint(0, 1)) for cell, _ in store.writes(name))
@@ -78,12 +82,12 @@ def changed(source, store, kept, way):
 def random_edit(seed, most=5):
     """An edit of a store by some small steps."""
     source = random.Random(seed)
-    store = random_store(source, most, least=source.choice([0, 2, 3, 3]))
+    store = random_store(source, most, cells=source.choice([1, 2, 4, 4]), least=source.choice([0, 2, 3, 3]))
     share = source.choice([0.2, 0.2, 0.5])
     kept = tuple(name for name in store.names if source.random() < share)
     after = store
     for _ in range(source.choice([1, 3, 6])):
-        way = source.choice(["drop", "join", "join", "tie", "untie", "untie", "write"])
+        way = source.choice(["drop", "drop", "join", "join", "tie", "untie", "untie", "write", "add"])
         try:
             after = changed(source, after, kept, way)
         except NoStore:

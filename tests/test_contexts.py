@@ -168,8 +168,17 @@ class TestSuits(unittest.TestCase):
         for ties, expected in (
                 ((), False), ((("c", "e"),), True), ((("e", "c"),), True), ((("d", "c"), ("e", "d")), True),
                 ((("c", "d"), ("e", "d")), False), ((("e", "k"), ("k", "c")), False), ((("d", "c"),), False),
-                ((("c", "e"), ("e", "c")), True), ((("c", "d"), ("d", "c"), ("e", "d")), True)):
+                ((("c", "e"), ("e", "c")), True), ((("c", "d"), ("d", "c"), ("e", "d")), True),
+                ((("d", "c"), ("d", "e"), ("e", "d")), True), ((("c", "d"), ("d", "c"), ("d", "e")), True),
+                ((("c", "d"), ("d", "c")), False)):
             self.assert_suits(expected, ((), three, ties))
+        four = (("c", ((X, 0),)), ("d", ((Y, 0),)), ("e", (((4, 0), 0),)), ("f", ((X, 1),)))
+        ring = (("e", "f"), ("f", "e"))
+        for ties, expected in (
+                ((("d", "c"), ("e", "d")) + ring, True), ((("c", "d"), ("d", "e")) + ring, True),
+                ((("d", "c"), ("d", "e")) + ring, False), ((("d", "c"),) + ring, False),
+                ((("c", "d"), ("d", "c")) + ring, False)):
+            self.assert_suits(expected, ((((4, 0), 0),), four, tuple(sorted(ties))))
 
     def test_kept_that_is_none(self):
         for kept in (("k", "a"), ("a", "a"), ("k", "k"), ("zz",), ("a", "zz"), ("c",), ("abcdefghijk",), ("",)):

@@ -100,7 +100,7 @@ class TestExamine(Unchanged):
             self.assertEqual(edit.examine(), told)
             if table is None:
                 self.assert_stranger(edit, told)
-        self.assertGreater(min(counts.values()), 20)
+        self.assertGreater(min(counts.values()), 10)
         self.assertGreater(sum(edit.before != edit.after and edit.examine()[0] == "table" for edit in EDITS), 100)
 
     def assert_stranger(self, edit, thing):

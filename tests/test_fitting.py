@@ -203,6 +203,16 @@ class TestRefusals(unittest.TestCase):
             for other in others:
                 self.assertIs(refusal_holds(ONE, right[:at] + (other,) + right[at + 1:], **wish), False)
 
+    def test_other_endings(self):
+        seen = ((X, 1), (Y, 5))
+        self.assertIs(refusal_holds(ONE, (("never", Y),), seen), True)
+        for step in (("Never", Y), ("value", Y), ("has", Y), ("lacks", Y), ("done", Y), ("", Y), (None, Y), ("never", X),
+                     ("never", (0, 1)), ("never", "a"), ("never", None), ("never",), ("never", Y, Y), ["never", Y]):
+            self.assertIs(refusal_holds(ONE, (step,), seen), False)
+        self.assertIs(refusal_holds(ONE, (("never", Y),), seen[:1]), False)
+        self.assertIs(refusal_holds(ONE, (("never", Y), ("never", Y)), seen), False)
+        self.assertIs(refusal_holds(ONE, (("has", "a"), ("has", "a")), has=("a",), lacks=("a",)), False)
+
     def test_true_and_false_are_no_numbers_of_a_cell(self):
         self.assertIs(refusal_holds(ONE, (("never", (False, 0)),), ((X, 7),)), False)
         self.assertIs(refusal_holds(ONE, (("never", (0, False)),), ((X, 7),)), False)

@@ -128,6 +128,43 @@ class TestLanguage(unittest.TestCase):
                     self.assertNotIn(name, WORDS, path)
                     self.assertTrue(re.fullmatch(r"_?[A-Za-z][A-Za-z0-9_]*|_|__[a-z]+__", name), (path, name))
 
+    def test_names_that_are_given_no_second_meaning(self):
+        for path, tree in self.trees.items():
+            taken = {alias.name for node in ast.walk(tree) if isinstance(node, ast.ImportFrom) for alias in node.names}
+            taken.update(node.name for node in tree.body if isinstance(node, ast.ClassDef))
+            for node in ast.walk(tree):
+                if isinstance(node, ast.Name) and isinstance(node.ctx, ast.Store):
+                    self.assertNotIn(node.id, taken, path)
+                if isinstance(node, ast.arg):
+                    self.assertNotIn(node.arg, taken, path)
+
+    def test_methods_and_attributes_have_names_of_their_own(self):
+        methods, attributes = set(), set()
+        for _, node in self.nodes:
+            if isinstance(node, ast.ClassDef):
+                methods.update(part.name for part in node.body if isinstance(part, ast.FunctionDef))
+            if isinstance(node, ast.Attribute) and isinstance(node.ctx, ast.Store):
+                attributes.add(node.attr)
+        self.assertEqual(methods & attributes, set())
+        known = {name for kind in (str, bytes, list, tuple, dict, set, int) for name in dir(kind) if name[:2] != "__"}
+        self.assertEqual((methods | attributes) & known, set())
+
+    def test_generators_are_iterated_at_once(self):
+        found = {node.name for _, node in self.nodes if isinstance(node, ast.FunctionDef)
+                 and any(isinstance(part, (ast.Yield, ast.YieldFrom)) for part in ast.walk(node))}
+        heads = [node.iter for _, node in self.nodes if isinstance(node, (ast.For, ast.comprehension))]
+        for path, node in self.nodes:
+            if isinstance(node, ast.Call) and isinstance(node.func, ast.Name) and node.func.id in found:
+                self.assertIn(node, heads, path)
+                self.assertTrue(all(isinstance(part, ast.Name) for part in node.args), path)
+
+    def test_patterns_are_plain(self):
+        for path, node in self.nodes:
+            if isinstance(node, ast.MatchSequence):
+                for part in ast.walk(node):
+                    self.assertFalse(isinstance(part, ast.MatchAs) and part.pattern is not None, path)
+                    self.assertNotIsInstance(part, (ast.MatchValue, ast.MatchMapping, ast.MatchClass), path)
+
     def test_what_an_operator_runs_changes_only_what_it_made(self):
         # Stores are made by an operator, so all that makes them adds up plainly: x = x + y.
         for path, node in self.nodes:

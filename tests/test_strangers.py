@@ -7,10 +7,11 @@ import unittest
 from heldparts.contexts import Context
 from heldparts.edits import Edit
 from heldparts.errors import NoContext, TooMany
-from heldparts.forms import is_content
+from heldparts.forms import is_content, name_of
 from heldparts.stores import Store
 from heldparts.strangers import noticed_by, pruned, stranger_holds
 from heldparts.tables import table_holds
+from heldparts.views import View, are_alike
 from tests.edit_samples import random_context, random_edit, ring_context
 from tests.lot_model import around, is_stranger, least_table, new_lots, noticed, suits
 from tests.samples import ANY, BARE, CHAIN, DISK, EMPTY, NOTHING, ONE, X, Y, Z
@@ -124,7 +125,7 @@ class TestStrangerHolds(unittest.TestCase):
             else:
                 self.assertIs(stranger_holds(edit, edit.examine()), True)
                 self.assertIs(table_holds(edit, edit.examine()), False)
-        self.assertGreater(min(kinds.values()), 30)
+        self.assertGreater(min(kinds.values()), 10)
 
     def test_one_thing_put_otherwise(self):
         source = random.Random(2)
@@ -159,6 +160,31 @@ class TestStrangerHolds(unittest.TestCase):
             for thing in (["memory"], "memory", ("memory", ()), ("memory", None), ("Memory",), (), (("memory",),), ("ring",),
                           ("lot",), {"memory": 1}, ("memory", ((), (), ()))):
                 self.assertIs(stranger_holds(edit, thing), False)
+
+    def test_contexts_that_suit_only_one_of_both_stores(self):
+        # The store without a has room for an added change of this name, the other one has not.
+        context = ((), (("a", ((X, 5),)),), (("k", "a"),))
+        free = ((), (("a", ((X, 5),)),), ())
+        for edit in (Edit(ONE, BARE, ("k",)), Edit(BARE, ONE, ("k",)), Edit(ONE, JOINED, ("k",))):
+            for parts in (context, free):
+                self.assertIs(stranger_holds(edit, ("ring", parts)), False)
+                self.assertIs(stranger_holds(edit, ("lot", parts, ("a",))), False)
+                self.assertIs(stranger_holds(edit, ("lot", parts, ())), False)
+                with self.assertRaises(NoContext):
+                    noticed_by(edit, Context(*parts), limit=0)
+        other = ((), (("c", ((X, 5),)),), (("k", "c"),))
+        self.assertIs(stranger_holds(Edit(ONE, BARE, ("k",)), ("ring", other)), True)
+        self.assertIs(stranger_holds(Edit(ONE, BARE), ("ring", other)), False)
+
+    def test_values_that_only_the_store_before_has(self):
+        edit = Edit(ONE, BARE)
+        self.assertIs(is_stranger(edit, edit.examine()), True)
+        self.assertIs(stranger_holds(edit, ("lot", ((), (("c", ((X, 1),)),), ()), ("c",))), False)
+        row = Store(DISK, tuple((name, ((X, value),)) for name, value in zip("abcd", (3, 2, 1, 0))),
+                    (("b", "a"), ("c", "b"), ("d", "c"))) | Store(((Z, 0),), (("k", ((Z, 1),)),), ())
+        edit = Edit(row.tied("d", "k"), Store(row.disk, row.changes[-1:], ()))
+        self.assertEqual(edit.examine()[0], "lot")
+        self.assertIs(is_stranger(edit, edit.examine()), True)
 
     def test_true_and_false_are_no_numbers(self):
         edit = Edit(ONE, BARE)
@@ -277,6 +303,27 @@ class TestNoticedBy(unittest.TestCase):
                     noticed_by(edit, Context(*parts), limit=limit)
                 self.assertEqual(caught.exception.limit, limit)
         self.assertGreater(asked, 150)
+
+    def test_five_hundred_unless_said(self):
+        # Two rows beside one another: 20 times 25 lots, and 3 times 167.
+        for counts in ((19, 24), (2, 166)):
+            rows = [[letter + name_of(at) for at in range(count)] for letter, count in zip(("m", "n"), counts)]
+            changes = [(name, (((row, 0), at),)) for row in (0, 1) for at, name in enumerate(rows[row])]
+            ties = [(rows[row][at + 1], rows[row][at]) for row in (0, 1) for at in range(counts[row] - 1)]
+            store = Store((((0, 0), -1), ((1, 0), -1)), tuple(changes), tuple(ties))
+            edit = Edit(store, store)
+            if counts[0] == 2:
+                self.assertRaises(TooMany, noticed_by, edit, Context())
+                self.assertRaises(TooMany, edit.examine)
+                self.assertRaises(TooMany, View.of, store, ())
+                self.assertRaises(TooMany, are_alike, store, store, ())
+            self.assertIsNone(noticed_by(edit, Context(), limit=501))
+            self.assertEqual(len(edit.examine(limit=501)[1]), 500 + (counts[0] == 2))
+            if counts[0] == 19:
+                self.assertIsNone(noticed_by(edit, Context()))
+                self.assertEqual(len(edit.examine()[1]), 500)
+                self.assertIs(are_alike(store, store, ()), True)
+                self.assertEqual(len(View.of(store, ())), 500)
 
     def test_only_by_name(self):
         with self.assertRaises(TypeError):

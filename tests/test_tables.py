@@ -9,6 +9,7 @@ from heldparts.edits import Edit
 from heldparts.errors import NoStore
 from heldparts.stores import Store
 from heldparts.tables import combined, lifted, table_holds
+from heldparts.views import View
 from tests.edit_samples import changed, random_context, random_edit
 from tests.lot_model import around, model_of, suits, table_choices
 from tests.samples import ANY, BARE, DISK, EMPTY, NOTHING, ONE, X, Y
@@ -100,6 +101,18 @@ class TestTableHolds(unittest.TestCase):
         self.assertIs(table_holds(Edit(free, tied, ("a",)), lines), True)
         self.assertIs(table_holds(Edit(free, tied), lines), True)
         self.assertEqual(Edit(free, tied, ("k",)).examine()[0], "ring")
+
+    def test_a_shown_pair_of_changes_more(self):
+        # k shows before the cell of j anyway, by m; only that it shows before j is new.
+        free = Store(DISK, (("j", ((X, 1),)), ("k", ((Y, 1),)), ("m", ((X, 2),))), (("m", "j"), ("m", "k")))
+        tied = free.tied("j", "k")
+        lines = (((), ()), (("k",), ("k",)), (("j", "k"), ("j", "k")), (("j", "k", "m"), ("j", "k", "m")))
+        self.assertIs(table_holds(Edit(free, tied, ("j", "k")), lines), False)
+        self.assertIs(table_holds(Edit(tied, tied, ("j", "k")), lines), True)
+        self.assertIs(table_holds(Edit(free, tied, ("k",)), lines), True)
+        self.assertEqual(Edit(free, tied, ("j", "k")).examine()[0], "ring")
+        self.assertIs(View.of(tied, ("j", "k")).is_within(View.of(free, ("j", "k"))), False)
+        self.assertIs(View.of(tied, ("k",)).is_within(View.of(free, ("k",))), True)
 
     def test_any_value(self):
         for edit in (Edit(ONE, ONE), Edit(ONE, BARE), Edit(NOTHING, NOTHING), Edit(EMPTY, EMPTY, ())):
