@@ -37,6 +37,17 @@ def leaves_new(before, after, lot):
     return least_fit(Lattice(before), content(after, lot), (), (), ()) is None
 
 
+def stores_around(edit, thing):
+    """The stores of an edit in the context with the parts that a value is.
+
+    Each is None if the context closes a ring with it; both are None if the value is no context that suits the edit.
+    """
+    context = context_in(thing)
+    if context is None or not suits_edit(context, edit):
+        return None, None
+    return store_around(context, edit.before, edit.kept), store_around(context, edit.after, edit.kept)
+
+
 def stranger_holds(edit, thing):
     """Whether a value is a stranger of an edit."""
     if thing == ("memory",):
@@ -45,11 +56,7 @@ def stranger_holds(edit, thing):
         return False
     if thing[0] != ("ring" if len(thing) == 2 else "lot"):
         return False
-    context = context_in(thing[1])
-    if context is None or not suits_edit(context, edit):
-        return False
-    before = store_around(context, edit.before, edit.kept)
-    after = store_around(context, edit.after, edit.kept)
+    before, after = stores_around(edit, thing[1])
     if len(thing) == 2:
         return (before is None) != (after is None)
     return before is not None and after is not None and is_lot(after, thing[2]) and leaves_new(before, after, thing[2])

@@ -3,6 +3,14 @@
 from heldparts.forms import name_of
 
 
+def free_cell_in(store, block):
+    """The first cell of a block that is none of a store."""
+    place = 0
+    while (block, place) in store.cells:
+        place += 1
+    return block, place
+
+
 def free_cells(store, count):
     """Some first cells of block 0 that are none of a store."""
     found = []

@@ -28,6 +28,11 @@ FUNCTIONS = {
     "strangers": {
         "stranger_holds": "edit, thing", "noticed_by": "edit, context, *, limit=500", "pruned": "edit, stranger"},
     "views": {"are_alike": "store, other, kept, *, limit=500"},
+    "kinds": {},
+    "reducing": {"after_row": "store, kept, row, *, limit=500", "reduced": "store, kept, *, limit=200"},
+    "batches": {
+        "batch_lots": "store", "batch_lines": "edit", "examine_batch": "edit", "batch_stranger_holds": "edit, thing"},
+    "modules": {"history": "module, *row", "held": "module, *row"},
 }
 # For each class its file, and the methods that it must define itself; class methods without the class.
 CLASSES = {
@@ -46,6 +51,14 @@ CLASSES = {
         "of": "store, kept, *, limit=500", "is_within": "self, other", "added": "self, name, writes, *after",
         "released": "self, *names", "renamed": "self, old, new", "tied": "self, later, earlier", "__len__": "self",
         "__eq__": "self, other", "__or__": "self, other"}),
+    "Join": ("kinds", {"__init__": "self, before, first, second, kept=()", "rule": "self"}),
+    "Tie": ("kinds", {"__init__": "self, before, later, earlier, kept=()", "rule": "self"}),
+    "Untie": ("kinds", {"__init__": "self, before, later, earlier, kept=()", "rule": "self"}),
+    "Drop": ("kinds", {"__init__": "self, before, name, kept=()", "rule": "self"}),
+    "Split": ("kinds", {"__init__": "self, before, name, new, cells, kept=()", "rule": "self"}),
+    "Module": ("modules", {
+        "__init__": "self, cells, handles, operations, promise", "evaluate": "self, expression, content, number=0",
+        "holds": "self, test, content, number=0", "__eq__": "self, other"}),
 }
 CLASS_METHODS = {"Store": ("empty", "read"), "Context": ("nothing",), "View": ("of",)}
 ERRORS = ("HeldError", "NoStore", "NoLot", "NoEdit", "NoContext", "NoModule", "NoWrite", "NotHeld", "TooMany",

@@ -156,7 +156,7 @@ class TestLanguage(unittest.TestCase):
         for path, node in self.nodes:
             if isinstance(node, ast.Call) and isinstance(node.func, ast.Name) and node.func.id in found:
                 self.assertIn(node, heads, path)
-                self.assertTrue(all(isinstance(part, ast.Name) for part in node.args), path)
+                self.assertTrue(all(isinstance(part, (ast.Name, ast.Attribute)) for part in node.args), path)
 
     def test_patterns_are_plain(self):
         for path, node in self.nodes:
