@@ -202,3 +202,64 @@ def closed(made):
     """Whether the pairs of a run are closed, as they must be."""
     names = [name for name, _ in made.changes]
     return made.pairs == pairs_before(names, ties_of(made))
+
+
+def lots_of(made):
+    """All lots of a run, each reached from smaller ones by a change more."""
+    ahead = {name: frozenset(first for first, last in made.pairs if last == name) for name, _ in made.changes}
+    found = {frozenset()}
+    level = [frozenset()]
+    while level:
+        more = {lot | {name} for lot in level for name in ahead if name not in lot and ahead[name] <= lot}
+        found |= more
+        level = list(more)
+    return sorted([tuple(sorted(lot)) for lot in found], key=lambda lot: (len(lot), lot))
+
+
+def left_by(made, lot):
+    """The content of a lot of a run, and the cells that are done in it."""
+    values, done = dict(made.disk), {cell: True for cell in made.memory}
+    for name, writes in made.changes:
+        # The changes come in the order in which they were made, which is that of every row.
+        for cell, value in writes:
+            done[cell] = name in lot
+            if name in lot:
+                values[cell] = value
+    return tuple(sorted(values.items())), tuple(sorted(cell for cell in done if done[cell]))
+
+
+def state_of(made):
+    """The state of a run (point 28)."""
+    handles = {name: handle for handle, name in made.holding.items()}
+    best = {}
+    for lot in lots_of(made):
+        content, done = left_by(made, lot)
+        key = (content, tuple(sorted(handles[name] for name in lot if name in handles)))
+        best.setdefault(key, []).append(done)
+    entries = []
+    for (content, names), dones in best.items():
+        entries += {(content, names, done) for done in dones if not any(set(other) > set(done) for other in dones)}
+    return tuple(sorted(made.memory.items())), tuple(sorted(entries)), tuple(sorted(made.past))
+
+
+def breaking(made):
+    """The lots of a run for whose contents its promise does not hold."""
+    return [lot for lot in lots_of(made) if not made.is_kept_by(left_by(made, lot)[0])]
+
+
+def search(module, most):
+    """All reached states with a shortest row to each, if there are no more than a number; None otherwise."""
+    first = run(module, ())
+    found = {state_of(first): ()}
+    waiting = [()]
+    for row in waiting:
+        if breaking(run(module, row)):
+            continue
+        for operation in module.inputs:
+            state = state_of(run(module, row + (operation,)))
+            if state not in found:
+                found[state] = row + (operation,)
+                waiting.append(row + (operation,))
+                if len(found) > most:
+                    return None
+    return found

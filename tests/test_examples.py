@@ -47,4 +47,4 @@ class TestExamples(unittest.TestCase):
                 asked += 1
             else:
                 exec(example.source, names)
-        self.assertGreaterEqual(asked, 20)
+        self.assertGreaterEqual(asked, 32)

@@ -8,7 +8,10 @@ import unittest
 
 from heldparts.contexts import Context
 from heldparts.edits import Edit
+from heldparts.keepers import Keeper
+from heldparts.kinds import Join
 from heldparts.views import View
+from tests.module_samples import DRAWER
 from tests.samples import BARE, BIG, CHAIN, NOTHING, ONE
 
 # For each file, the functions that it must define, with their parameters as they are written.
@@ -33,6 +36,13 @@ FUNCTIONS = {
     "batches": {
         "batch_lots": "store", "batch_lines": "edit", "examine_batch": "edit", "batch_stranger_holds": "edit, thing"},
     "modules": {"history": "module, *row", "held": "module, *row"},
+    "judging": {
+        "first_state": "module", "next_state": "module, state, name, number", "is_good": "module, state",
+        "judge": "module, *, limit=200", "paper_holds": "module, thing", "break_holds": "module, thing",
+        "breaking_lots": "module, *row", "spared": "module, *, limit=200"},
+    "keepers": {},
+    "logs": {"audit": "store, kept, log, *, limit=500"},
+    "console": {},
 }
 # For each class its file, and the methods that it must define itself; class methods without the class.
 CLASSES = {
@@ -59,6 +69,11 @@ CLASSES = {
     "Module": ("modules", {
         "__init__": "self, cells, handles, operations, promise", "evaluate": "self, expression, content, number=0",
         "holds": "self, test, content, number=0", "__eq__": "self, other"}),
+    "Keeper": ("keepers", {
+        "__init__": "self, *modules", "do": "self, module, name, number=0", "tie": "self, module, handle, other, earlier",
+        "write": "self, *names", "edit": "self, edit", "broken": "self", "trial": "self", "trying": "self, action",
+        "attempt": "self, *deeds"}),
+    "Console": ("console", {"__init__": "self", "say": "self, command"}),
 }
 CLASS_METHODS = {"Store": ("empty", "read"), "Context": ("nothing",), "View": ("of",)}
 ERRORS = ("HeldError", "NoStore", "NoLot", "NoEdit", "NoContext", "NoModule", "NoWrite", "NotHeld", "TooMany",
@@ -126,6 +141,16 @@ class TestInterface(unittest.TestCase):
                 (view | View.of(NOTHING, ()), ("cells", "kept", "entries", "shown", "text"))):
             for name in names:
                 self.assertIn(name, vars(thing))
+
+    def test_attributes_of_modules_and_keepers(self):
+        keeper = Keeper(DRAWER)
+        for thing, names in (
+                (DRAWER, ("cells", "handles", "operations", "promise", "start", "inputs")), (keeper, ("store", "held", "made")),
+                (Join(ONE, "a", "b"), ("before", "after", "kept"))):
+            for name in names:
+                self.assertIn(name, vars(thing))
+        keeper.do(0, "add")
+        self.assertEqual((keeper.store.names, keeper.held, keeper.made), (("a", "b"), ((0, "h", "a"),), 2))
 
     def test_results_are_of_the_listed_kinds(self):
         store = CHAIN.with_change("f", (((4, 0), BIG),), "a")
