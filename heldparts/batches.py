@@ -1,7 +1,7 @@
 """Batches, in which each block is written once, as a whole."""
 
 from heldparts.edits import shown_pairs
-from heldparts.lots import content, is_lot
+from heldparts.lots import content, mask_in
 from heldparts.orders import places_in
 from heldparts.strangers import stores_around, stranger_holds
 from heldparts.witnesses import free_cell_in, free_names, ring_stranger
@@ -15,9 +15,9 @@ def blocks_by_name(store):
 def block_masks(store):
     """For each block of the changes of a store, ascending, the mask of its changes."""
     masks = {block: 0 for block in store.blocks}
-    for at, (_, writes) in enumerate(store.changes):
+    for name, writes in store.changes:
         block = writes[0][0][0]
-        masks[block] = masks[block] | (1 << at)
+        masks[block] = masks[block] | (1 << store.frame.places[name])
     return masks
 
 
@@ -25,9 +25,7 @@ def whole_masks(store, masks):
     """For each block the mask of the least batch lot with its changes."""
     whole = {}
     for block in masks:
-        ahead = masks[block]
-        for at in places_in(masks[block]):
-            ahead = ahead | store.masks[at]
+        ahead = store.frame.closure(masks[block])
         whole[block] = sum([mask for mask in list(masks.values()) if mask & ahead != 0])
     # All walks from block to block over the first one, over the first two and so on.
     for middle in masks:
@@ -63,13 +61,13 @@ def batch_masks(store):
                 own, need, more = units[at]
                 if need & ~mask == 0:
                     waiting.setdefault(count + more, []).append((mask | own, at + 1))
-        yield from sorted([mask for mask, _ in level], key=places_in)
+        yield from sorted([mask for mask, _ in level], reverse=True)
 
 
 def batch_lots(store):
     """Yield all lots that have of each block all changes or none, in the order of lots."""
     for mask in batch_masks(store):
-        yield tuple([store.names[at] for at in places_in(mask)])
+        yield store.frame.names_in(mask)
 
 
 def parts_of(row):
@@ -123,7 +121,7 @@ def need_stranger(edit, block, other):
     names = [late]
     masks = block_masks(edit.after)
     if block in masks:
-        names = names + [edit.after.names[at] for at in places_in(whole_masks(edit.after, masks)[block])]
+        names = names + list(edit.after.frame.names_in(whole_masks(edit.after, masks)[block]))
     changes = tuple([(name, ((cells[name], 1),)) for name in (late, early)])
     return "lot", (disk, changes, ()), tuple(sorted(names))
 
@@ -143,10 +141,8 @@ def examine_batch(edit):
 
 def is_batch_lot(store, thing):
     """Whether a value is a batch lot of a store."""
-    if not is_lot(store, thing):
-        return False
-    mask = sum([1 << store.places[name] for name in thing])
-    return all([part & mask in (0, part) for part in list(block_masks(store).values())])
+    mask = mask_in(store.frame, thing)
+    return mask is not None and all([part & mask in (0, part) for part in list(block_masks(store).values())])
 
 
 def has_batch_content(store, wanted):

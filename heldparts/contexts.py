@@ -2,7 +2,8 @@
 
 from heldparts.errors import NoContext
 from heldparts.forms import are_changes, are_names_in, are_ties, is_content
-from heldparts.orders import direct_masks, reached
+from heldparts.frames import earlier_places
+from heldparts.orders import reached
 from heldparts.stores import Store
 
 
@@ -22,7 +23,7 @@ def rows_are_tied(changes, ties):
         return True
     places = {name: at for at, (name, _) in enumerate(changes)}
     own = [(later, earlier) for later, earlier in ties if later in places and earlier in places]
-    masks = reached(direct_masks(places, own))
+    masks = reached(earlier_places(places, own))
     for row in rows:
         for at, place in enumerate(row):
             if not all([((masks[place] >> other) | (masks[other] >> place)) & 1 == 1 for other in row[:at]]):

@@ -1,22 +1,20 @@
 """Edits: one store in the place of another, and some changes that others may name."""
 
+from heldparts.answers import least_lots
+from heldparts.codes import Coder, Names, values_in
 from heldparts.errors import NoContext, NoEdit
-from heldparts.fitting import least_fit
 from heldparts.forms import are_names_in, merged
-from heldparts.lattices import Lattice, lot_masks_within
 from heldparts.witnesses import lot_stranger, ring_stranger
-
-
-def shows_before_cell(store, name, cell):
-    """Whether a change writes a cell or stands before one that does."""
-    row = store.row(cell)
-    return len(row) > 0 and (name == row[-1] or store.is_before(name, row[-1]))
 
 
 def shown_pairs(store, kept):
     """The pairs of kept changes, and of a kept change and a cell, of which the first shows before the second."""
-    changes = [(name, other) for name in kept for other in kept if store.is_before(name, other)]
-    cells = [(name, cell) for name in kept for cell in store.cells if shows_before_cell(store, name, cell)]
+    frame = store.frame
+    places = [(name, frame.places[name]) for name in kept]
+    ahead = [(name, frame.masks[place]) for name, place in places]
+    ends = [(cell, frame.upto[frame.lines[cell][-1][0]]) for cell in store.cells]
+    changes = [(name, other) for name, place in places for other, mask in ahead if (mask >> place) & 1 == 1]
+    cells = [(name, cell) for name, place in places for cell, mask in ends if (mask >> place) & 1 == 1]
     return tuple(changes), tuple(cells)
 
 
@@ -50,25 +48,23 @@ class Edit:
 
     def examine(self, *, limit=500):
         """The least table, or a stranger."""
-        lattice = Lattice(self.after)
-        found = lot_masks_within(lattice, limit)
+        before, after = self.before.frame, self.after.frame
+        coder = Coder(before.cells, self.kept, values_in(before, after))
+        codes = coder.codes(after, limit)
         if self.before.memory != self.after.memory:
             return ("memory",)
         shown, others = shown_pairs(self.before, self.kept), shown_pairs(self.after, self.kept)
         if shown != others:
             # With unlike shown pairs there is no table: a lot lacks a kept name that the other store asks for.
             return ring_stranger(self.before, self.after, shown, others)
-        table = []
-        waiting = Lattice(self.before)
-        for mask in found:
-            lot, seen, done = lattice.names_in(mask), lattice.content(mask), lattice.done_cells(mask)
-            has = [name for name in self.kept if name in lot]
-            lacks = [name for name in self.kept if name not in lot]
-            other = least_fit(waiting, seen, has, lacks, done)
-            if other is None:
-                return lot_stranger(self.before, self.after, self.kept, lot, done)
-            table.append((lot, waiting.names_in(other)))
-        return "table", tuple(table)
+        codes = sorted(codes)
+        masks = least_lots(coder, before, codes)
+        names = Names(after.names)
+        lots = names.of_codes(codes[:len(masks)], coder.top)
+        if masks[-1] is None:
+            return lot_stranger(self.before, self.after, self.kept, lots[-1], coder.done_in(codes[len(masks) - 1]))
+        others = names if before.names == after.names else Names(before.names)
+        return "table", tuple(zip(lots, others.tuples(masks)))
 
     def then(self, other):
         """This edit and another one that follows it, as one edit."""

@@ -1,117 +1,127 @@
 """The lots that fit a wish, and why there are none."""
 
 from heldparts.forms import is_cell, is_pair
-from heldparts.lattices import Lattice
 from heldparts.lots import is_lot
 from heldparts.orders import places_in
 
 
-def first_match(steps, count, value):
+def first_match(line, count, value):
     """The least number of changes, from a count on, after which a cell has a value, or None."""
-    for more in range(count, len(steps)):
-        if steps[more] == value:
+    for more in range(count, len(line)):
+        if line[more][1] == value:
             return more
     return None
 
 
-def forced_at_once(lattice, has, done):
+def forced_at_once(frame, has, done):
     """What the names to have and the cells to be done force: the mask, and a step for each of them."""
     mask = 0
     steps = []
     for name in has:
-        mask = mask | lattice.upto[lattice.places[name]]
+        mask = mask | frame.upto[frame.places[name]]
         steps.append(("has", name))
     for cell in done:
-        row = lattice.rows[cell]
-        if len(row) > 0:
-            mask = mask | lattice.upto[row[-1]]
-            steps.append(("done", lattice.names[row[-1]], cell))
+        place, _ = frame.lines[cell][-1]
+        if place >= 0:
+            mask = mask | frame.upto[place]
+            steps.append(("done", frame.names[~place], cell))
     return mask, steps
 
 
-def forced(lattice, seen, has, done):
+def forced(frame, seen, has, done):
     """What a wish forces: the mask of a lot, or None if a cell never has its value; and the steps to it.
 
     The steps leave out the changes that stand before others. The last one tells which cell never has its value.
     """
-    mask, steps = forced_at_once(lattice, has, done)
+    mask, steps = forced_at_once(frame, has, done)
     more = True
     while more:
         more = False
         for cell, value in seen:
-            count = lattice.count_in(cell, mask)
-            needed = first_match(lattice.steps[cell], count, value)
+            line = frame.lines[cell]
+            count = frame.count_in(cell, mask)
+            needed = first_match(line, count, value)
             if needed is None:
                 steps.append(("never", cell))
                 return None, steps
             if needed > count:
-                place = lattice.rows[cell][needed - 1]
-                mask = mask | lattice.upto[place]
-                steps.append(("value", lattice.names[place], cell))
+                place, _ = line[needed]
+                mask = mask | frame.upto[place]
+                steps.append(("value", frame.names[~place], cell))
                 more = True
     return mask, steps
 
 
-def least_fit(lattice, seen, has, lacks, done):
-    """The mask of the least lot that fits a wish, or None."""
-    mask, _ = forced(lattice, seen, has, done)
-    if mask is None or mask & lattice.mask_of(lacks) != 0:
-        return None
-    return mask
-
-
-def greatest_fit(lattice, seen, lacks):
-    """The mask of the greatest lot that fits a wish, if there is one."""
-    barred = lattice.mask_of(lacks)
+def least_from(frame, seen, mask):
+    """The mask of the least lot with the seen values that has all changes of a lot, or None."""
     more = True
     while more:
         more = False
-        mask = sum([1 << at for at, upto in enumerate(lattice.upto) if upto & barred == 0])
         for cell, value in seen:
-            count = lattice.count_in(cell, mask)
-            if lattice.steps[cell][count] != value:
-                # With one change less of the row the cell may have the value.
-                barred = barred | (1 << lattice.rows[cell][count - 1])
+            line = frame.lines[cell]
+            count = len(line) - 1
+            while count > 0 and (mask >> line[count][0]) & 1 == 0:
+                count -= 1
+            if line[count][1] != value:
+                needed = first_match(line, count, value)
+                if needed is None:
+                    return None
+                mask = mask | frame.upto[line[needed][0]]
                 more = True
     return mask
 
 
-def spelled_out(lattice, steps):
+def greatest_fit(frame, seen, lacks):
+    """The mask of the greatest lot that fits a wish, if there is one."""
+    barred = frame.mask_of(lacks)
+    more = True
+    while more:
+        more = False
+        mask = sum([1 << at for at in range(len(frame.masks)) if frame.upto[at] & barred == 0])
+        for cell, value in seen:
+            place, left = frame.lines[cell][frame.count_in(cell, mask)]
+            if left != value:
+                # With one change less of the row the cell may have the value.
+                barred = barred | (1 << place)
+                more = True
+    return mask
+
+
+def spelled_out(frame, steps):
     """Steps with those for the changes that stand before others put between them."""
     told = []
     mask = 0
     for step in steps:
         told.append(step)
         if step[0] != "never":
-            place = lattice.places[step[1]]
-            for other in places_in(lattice.upto[place] & ~(mask | (1 << place))):
-                told.append(("before", lattice.names[other], step[1]))
-            mask = mask | lattice.upto[place]
+            place = frame.places[step[1]]
+            for other in places_in(frame.masks[place] & ~mask):
+                told.append(("before", frame.names[~other], step[1]))
+            mask = mask | frame.upto[place]
     return told
 
 
 def fitting(store, seen=(), *, has=(), lacks=(), done=()):
     """The least and the greatest lot that fit a wish, or a refusal."""
-    lattice = Lattice(store)
-    mask, steps = forced(lattice, seen, has, done)
-    told = spelled_out(lattice, steps)
+    frame = store.frame
+    mask, steps = forced(frame, seen, has, done)
     if mask is None:
-        return "none", tuple(told)
-    wrong = lattice.names_in(mask & lattice.mask_of(lacks))
+        return "none", tuple(spelled_out(frame, steps))
+    wrong = frame.names_in(mask & frame.mask_of(lacks))
     if len(wrong) > 0:
-        return "none", tuple(told + [("lacks", wrong[0])])
-    return "lots", lattice.names_in(mask), lattice.names_in(greatest_fit(lattice, seen, lacks))
+        return "none", tuple(spelled_out(frame, steps) + [("lacks", wrong[0])])
+    return "lots", frame.names_in(mask), frame.names_in(greatest_fit(frame, seen, lacks))
 
 
 def fits(store, lot, seen=(), *, has=(), lacks=(), done=()):
     """Whether a lot fits a wish."""
     if not is_lot(store, lot) or not all([name in lot for name in has]) or any([name in lot for name in lacks]):
         return False
-    lattice = Lattice(store)
-    mask = lattice.mask_of(lot)
-    if not all([lattice.steps[cell][lattice.count_in(cell, mask)] == value for cell, value in seen]):
+    frame = store.frame
+    mask = frame.mask_of(lot)
+    if not all([frame.lines[cell][frame.count_in(cell, mask)][1] == value for cell, value in seen]):
         return False
-    return all([lattice.is_done(cell, mask) for cell in done])
+    return all([frame.is_done(cell, mask) for cell in done])
 
 
 def forced_count(store, cell, known):

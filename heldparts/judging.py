@@ -1,9 +1,9 @@
 """Judging modules: whether they keep their promises, for all rows of operations and wherever a failure comes."""
 
+from heldparts.codes import Coder, Names, levels, values_in
 from heldparts.errors import NoModule, TooMany
-from heldparts.fitting import least_fit
+from heldparts.fitting import least_from
 from heldparts.forms import is_int, is_pair
-from heldparts.lattices import Lattice, lot_masks
 from heldparts.lots import content, is_lot
 from heldparts.machines import Machine, Search
 from heldparts.meanings import steps_of
@@ -50,8 +50,8 @@ def judge(module, *, limit=200):
     if search.broken_state is None:
         return "keeps", search.paper()
     row = search.row_to(search.broken_state)
-    lattice = Lattice(history(module, *row))
-    return "breaks", row, lattice.names_in(least_fit(lattice, search.broken_content(), (), (), ()))
+    frame = history(module, *row).frame
+    return "breaks", row, frame.names_in(least_from(frame, search.broken_content(), 0))
 
 
 def paper_holds(module, thing):
@@ -101,15 +101,19 @@ def break_holds(module, thing):
 
 def breaking_lots(module, *row):
     """Yield the lots of the history of a row for whose contents the promise does not hold."""
-    lattice = Lattice(history(module, *row))
+    frame = history(module, *row).frame
     past = past_of(module, row)
+    coder = Coder(frame.cells, (), values_in(frame))
+    names = Names(frame.names)
+    first, steps = coder.first_code(frame), coder.steps(frame)
     known = {}
-    for mask in lot_masks(lattice):
-        given = lattice.content(mask)
-        if given not in known:
-            known[given] = promise_holds(module, given, past)
-        if not known[given]:
-            yield lattice.names_in(mask)
+    for level in levels(first, steps):
+        for code in level:
+            key = code & coder.key_mask
+            if key not in known:
+                known[key] = promise_holds(module, coder.content(code), past)
+        broken = [code for code in level if not known[code & coder.key_mask]]
+        yield from names.of_codes(broken, coder.top)
 
 
 def body_without(body, at):

@@ -1,8 +1,8 @@
 """Keepers: several modules at work on one store, which may be tied, edited and written meanwhile."""
 
+from heldparts.codes import Coder, Names, levels, values_in
 from heldparts.errors import NoEdit, Noticed, NoStore, NotHeld
 from heldparts.forms import ascends
-from heldparts.lattices import Lattice, lot_masks
 from heldparts.meanings import Course, steps_of
 from heldparts.promises import promise_holds, shown_by, values_on
 from heldparts.stores import Store
@@ -127,16 +127,21 @@ class Keeper:
 
     def broken(self):
         """Yield `(module, lot)` for each module and each lot for whose content its promise does not hold."""
-        lattice = Lattice(self.store)
-        found = [(mask, lattice.content(mask)) for mask in lot_masks(lattice)]
+        frame = self.store.frame
+        coder = Coder(frame.cells, (), values_in(frame))
+        names = Names(frame.names)
+        first, steps = coder.first_code(frame), coder.steps(frame)
         for at, module in enumerate(self.modules):
+            # Only the module's own cells count.
+            own = sum([coder.rank_mask << coder.shifts[cell] for cell in module.sizes])
             known = {}
-            for mask, content in found:
-                own = tuple([value for cell, value in content if cell in module.sizes])
-                if own not in known:
-                    known[own] = promise_holds(module, content, self.pasts[at])
-                if not known[own]:
-                    yield at, lattice.names_in(mask)
+            for level in levels(first, steps):
+                for code in level:
+                    if code & own not in known:
+                        known[code & own] = promise_holds(module, coder.content(code), self.pasts[at])
+                broken = [code for code in level if not known[code & own]]
+                for lot in names.of_codes(broken, coder.top):
+                    yield at, lot
 
     def trial(self):
         """A trial, for use with `with`."""

@@ -1,8 +1,8 @@
 """Integers of any length in decimal; Python itself refuses to convert those of thousands of digits at once."""
 
 DIGITS = "0123456789"
-# Most integers are short, and Python converts these at once.
-SHORT = 1000000000
+# Most integers are shorter, and Python converts these at once.
+SHORT = 10 ** 64
 
 
 def numeral(number):

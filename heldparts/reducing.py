@@ -27,8 +27,8 @@ def after_row(store, kept, row, *, limit=500):
 
 
 def named(store, step):
-    """The part of a row for a step between shapes, in which each part has the first of its names."""
-    names = [store.names[lowest(mask)] for mask in sorted(step, key=lowest)]
+    """The part of a row for a step between shapes, in which each part has the last of its names."""
+    names = [store.names[~lowest(mask)] for mask in sorted(step, key=lowest)]
     return ("join" if len(names) == 2 else "drop", *names)
 
 

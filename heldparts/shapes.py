@@ -42,11 +42,9 @@ class Shapes:
     def __init__(self, store, kept):
         self.store = store
         self.kept = kept
-        self.kept_mask = sum([1 << store.places[name] for name in kept])
-        self.first = tuple([(1 << at, ahead) for at, ahead in enumerate(store.masks)])
-        self.blocks = [writes[0][0][0] for _, writes in store.changes]
-        self.lines = [(cell, [store.places[name] for name in store.row(cell)], store.row_values(cell))
-                      for cell in store.cells]
+        self.kept_mask = store.frame.mask_of(kept)
+        self.first = tuple([(1 << at, ahead) for at, ahead in enumerate(store.frame.masks)])
+        self.blocks = [writes[0][0][0] for _, writes in store.changes[::-1]]
         # What a part writes depends on nothing but the changes that it was made of, as do the bits of its cells.
         self.known = {}
 
@@ -55,22 +53,19 @@ class Shapes:
         if mask not in self.known:
             writes = []
             shown = mask & self.kept_mask
-            for at, (cell, row, values) in enumerate(self.lines):
-                count = len(row)
-                while count > 0 and (mask >> row[count - 1]) & 1 == 0:
-                    count -= 1
-                if count > 0:
-                    writes.append((cell, values[count]))
+            for at, cell in enumerate(self.store.cells):
+                last = [value for place, value in self.store.frame.lines[cell][1:] if (mask >> place) & 1 == 1][-1:]
+                if len(last) > 0:
+                    writes.append((cell, last[0]))
                     shown = shown | (1 << (len(self.blocks) + at))
             self.known[mask] = (tuple(writes), shown)
         return self.known[mask]
 
     def store_of(self, shape):
-        """The store with a shape in which each part has the first of its names."""
-        names = self.store.names
-        changes = [(names[lowest(mask)], self.written(mask)[0]) for mask, _ in shape]
-        ties = [(names[lowest(mask)], names[lowest(other)]) for mask, ahead in shape for other, _ in shape
-                if other & ahead != 0]
+        """The store with a shape in which each part has the last of its names."""
+        names = {mask: self.store.names[~lowest(mask)] for mask, _ in shape}
+        changes = [(names[mask], self.written(mask)[0]) for mask, _ in shape]
+        ties = [(names[mask], names[other]) for mask, ahead in shape for other, _ in shape if other & ahead != 0]
         return Store(self.store.disk, tuple(changes), tuple(ties))
 
     def labelings(self, shape):

@@ -1,9 +1,10 @@
 """Strangers, who notice an edit."""
 
+from heldparts.answers import least_lots
+from heldparts.codes import Coder, Names, values_in
 from heldparts.contexts import Context
 from heldparts.errors import NoContext, Ring
-from heldparts.fitting import least_fit
-from heldparts.lattices import Lattice, lot_masks_within
+from heldparts.fitting import least_from
 from heldparts.lots import content, is_lot
 
 
@@ -34,7 +35,7 @@ def store_around(context, store, kept):
 
 def leaves_new(before, after, lot):
     """Whether a lot of one store has a content that no lot of another one has."""
-    return least_fit(Lattice(before), content(after, lot), (), (), ()) is None
+    return least_from(before.frame, content(after, lot), 0) is None
 
 
 def stores_around(edit, thing):
@@ -72,11 +73,16 @@ def noticed_by(edit, context, *, limit=500):
         return None if before is None and after is None else ("ring",)
     if before.memory != after.memory:
         return ("memory",)
-    waiting, lattice = Lattice(before), Lattice(after)
-    for mask in lot_masks_within(lattice, limit):
-        if least_fit(waiting, lattice.content(mask), (), (), ()) is None:
-            return "lot", lattice.names_in(mask)
-    return None
+    coder = Coder(before.cells, (), values_in(before.frame, after.frame))
+    codes = sorted(coder.codes(after.frame, limit))
+    contents = [code & coder.key_mask for code in codes]
+    # Each content once, by the first lot that has it.
+    known = list({code: True for code in contents})
+    masks = least_lots(coder, before.frame, known)
+    if masks[-1] is not None:
+        return None
+    first = contents.index(known[len(masks) - 1])
+    return "lot", Names(after.names).of_codes([codes[first]], coder.top)[0]
 
 
 def written_part(disk, changes):

@@ -1,9 +1,10 @@
 """Tables, by which nobody can ever notice an edit."""
 
+from heldparts.codes import Coder, Names, values_in
 from heldparts.edits import shown_pairs
+from heldparts.errors import TooMany
 from heldparts.forms import is_pair
-from heldparts.lattices import Lattice, lot_masks
-from heldparts.lots import is_lot, lots
+from heldparts.lots import lots, mask_in
 
 
 def shows_no_more(edit):
@@ -13,34 +14,36 @@ def shows_no_more(edit):
     return all([pair in before[part] for part in (0, 1) for pair in after[part]])
 
 
-def answers(edit, before, after, mask, other):
-    """Whether a value is a lot of the store before an edit that will do for a lot of the store after it."""
-    if not is_lot(edit.before, other):
-        return False
-    found = before.mask_of(other)
-    if before.content(found) != after.content(mask):
-        return False
-    lot = after.names_in(mask)
-    if not all([(name in lot) == (name in other) for name in edit.kept]):
-        return False
-    return all([before.is_done(cell, found) for cell in after.done_cells(mask)])
+def answers(coder, frame, code, mask):
+    """Whether a lot of the store before an edit will do for the integer of a lot of the store after it."""
+    for cell in coder.cells:
+        count = frame.count_in(cell, mask)
+        line = frame.lines[cell]
+        part = code >> coder.shifts[cell]
+        if coder.ranks[line[count][1]] != part & coder.rank_mask or (part & 1 == 1 and count + 1 < len(line)):
+            return False
+    return all([(mask >> frame.places[name]) & 1 == (code >> at) & 1 for at, name in enumerate(coder.kept[::-1])])
 
 
 def table_holds(edit, thing):
     """Whether a value is a table of an edit."""
     if not isinstance(thing, tuple) or not shows_no_more(edit):
         return False
-    before, after = Lattice(edit.before), Lattice(edit.after)
-    count = 0
-    for mask in lot_masks(after):
-        # There may be far too many lots, so the first line that is missing or wrong ends it.
-        if count == len(thing) or not is_pair(thing[count]):
+    before, after = edit.before.frame, edit.after.frame
+    coder = Coder(before.cells, edit.kept, values_in(before, after))
+    try:
+        codes = sorted(coder.codes(after, len(thing)))
+    except TooMany:
+        return False
+    if len(codes) != len(thing):
+        return False
+    for line, lot, code in zip(thing, Names(after.names).of_codes(codes, coder.top), codes):
+        if not is_pair(line) or line[0] != lot:
             return False
-        lot, other = thing[count]
-        if lot != after.names_in(mask) or not answers(edit, before, after, mask, other):
+        mask = mask_in(before, line[1])
+        if mask is None or not answers(coder, before, code, mask):
             return False
-        count += 1
-    return count == len(thing)
+    return True
 
 
 def combined(table, other):

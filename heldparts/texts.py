@@ -2,27 +2,28 @@
 
 from heldparts.errors import InvalidText
 from heldparts.forms import is_change, is_content
-from heldparts.numerals import integer_in, numeral
+from heldparts.numerals import SHORT, integer_in, numeral
 
 
 def cell_text(cell):
     """A cell as B.P."""
-    return numeral(cell[0]) + "." + numeral(cell[1])
+    block, place = cell
+    if block < SHORT and place < SHORT:
+        return f"{block}.{place}"
+    return numeral(block) + "." + numeral(place)
 
 
-def write_text(cell, value):
-    """A cell with a value as B.P=V."""
-    return cell_text(cell) + "=" + numeral(value)
+def write_texts(writes, words):
+    """Cells with values as B.P=V, where the words for the cells are known."""
+    return [f"{words[cell]}={value if -SHORT < value < SHORT else numeral(value)}" for cell, value in writes]
 
 
 def store_text(disk, changes, ties):
     """The text of a store with these attributes."""
-    cells = [f"cell {cell_text(cell)} {numeral(value)}" for cell, value in disk]
-    waiting = []
-    for name, writes in changes:
-        waiting.append(" ".join(["change", name] + [write_text(cell, value) for cell, value in writes]))
-    tied = [f"tie {later} {earlier}" for later, earlier in ties]
-    return "\n".join(cells + waiting + tied)
+    words = {cell: cell_text(cell) for cell, _ in disk}
+    lines = [f"cell {words[cell]} {value if -SHORT < value < SHORT else numeral(value)}" for cell, value in disk]
+    lines = lines + [f"change {name} " + " ".join(write_texts(writes, words)) for name, writes in changes]
+    return "\n".join(lines + [f"tie {later} {earlier}" for later, earlier in ties])
 
 
 def view_text(entries):

@@ -1,8 +1,10 @@
 """Views: what of a store of changes can ever be noticed."""
 
+from heldparts.codes import Coder, values_in
+from heldparts.edits import shown_pairs
+from heldparts.entries import entries_of, entry_codes
 from heldparts.errors import NoStore, Ring
 from heldparts.forms import merged
-from heldparts.lattices import Lattice, lot_masks_within
 from heldparts.texts import view_text
 
 
@@ -34,25 +36,27 @@ def shown_in(cells, kept, entries):
                                   if (under[cell] >> places[name]) & 1 == 1])
 
 
+def view_with(cells, kept, entries):
+    """The view of a store with these cells, kept names and entries."""
+    left = uncovered(entries)
+    return View(cells, kept, left, shown_in(cells, kept, left), view_text(left))
+
+
 class View:
     """The cells and kept names of a store, and the entries of its lots that are not covered."""
 
-    def __init__(self, cells, kept, entries):
+    def __init__(self, cells, kept, entries, shown, text):
         self.cells = cells
         self.kept = kept
-        self.entries = uncovered(entries)
-        self.shown = shown_in(cells, kept, self.entries)
-        self.text = view_text(self.entries)
+        self.entries = entries
+        self.shown = shown
+        self.text = text
 
     @classmethod
     def of(cls, store, kept, *, limit=500):
         """The view of a store with kept names."""
-        lattice = Lattice(store)
-        entries = []
-        for mask in lot_masks_within(lattice, limit):
-            names = tuple([name for name in lattice.names_in(mask) if name in kept])
-            entries.append((lattice.content(mask), names, lattice.done_cells(mask)))
-        return cls(store.cells, kept, entries)
+        entries, text = entries_of(store.frame, kept, limit)
+        return cls(store.cells, kept, entries, shown_pairs(store, kept), text)
 
     def __len__(self):
         return len(self.entries)
@@ -73,7 +77,7 @@ class View:
         for content, names, done in self.entries:
             for left, had, ended in other.entries:
                 entries.append((merged(content, left), merged(names, had), merged(done, ended)))
-        return View(merged(self.cells, other.cells), merged(self.kept, other.kept), entries)
+        return view_with(merged(self.cells, other.cells), merged(self.kept, other.kept), entries)
 
     def is_within(self, other):
         """Whether this view is within another one."""
@@ -104,7 +108,7 @@ class View:
             if all([cell in done for cell in written]) and all([other in names for other in after]):
                 left = tuple([(cell, written.get(cell, value)) for cell, value in content])
                 entries.append((left, merged(names, (name,)), done))
-        return View(self.cells, merged(self.kept, (name,)), entries)
+        return view_with(self.cells, merged(self.kept, (name,)), entries)
 
     def released(self, *names):
         """The view in which these names are not kept any more."""
@@ -112,7 +116,7 @@ class View:
         entries = []
         for content, had, done in self.entries:
             entries.append((content, tuple([name for name in had if name not in names]), done))
-        return View(self.cells, tuple([name for name in self.kept if name not in names]), entries)
+        return view_with(self.cells, tuple([name for name in self.kept if name not in names]), entries)
 
     def renamed(self, old, new):
         """The view in which a kept change has another name."""
@@ -124,7 +128,7 @@ class View:
         entries = []
         for content, had, done in self.entries:
             entries.append((content, tuple(sorted([names[name] for name in had])), done))
-        return View(self.cells, tuple(sorted([names[name] for name in self.kept])), entries)
+        return view_with(self.cells, tuple(sorted([names[name] for name in self.kept])), entries)
 
     def tied(self, later, earlier):
         """The view in which a kept change stands behind another one."""
@@ -134,9 +138,10 @@ class View:
         if (earlier, later) in self.shown[0]:
             return self
         entries = [entry for entry in self.entries if later not in entry[1] or earlier in entry[1]]
-        return View(self.cells, self.kept, entries)
+        return view_with(self.cells, self.kept, entries)
 
 
 def are_alike(store, other, kept, *, limit=500):
     """Whether two stores with the same disk and the same kept changes are alike."""
-    return View.of(store, kept, limit=limit) == View.of(other, kept, limit=limit)
+    coder = Coder(store.cells, kept, values_in(store.frame, other.frame))
+    return entry_codes(coder, store.frame, limit) == entry_codes(coder, other.frame, limit)
