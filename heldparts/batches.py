@@ -1,9 +1,9 @@
 """Batches, in which each block is written once, as a whole."""
 
 from heldparts.edits import shown_pairs
-from heldparts.lots import content, mask_in
+from heldparts.lots import mask_in
 from heldparts.orders import places_in
-from heldparts.strangers import stores_around, stranger_holds
+from heldparts.strangers import frames_around, stranger_holds
 from heldparts.witnesses import free_cell_in, free_names, ring_stranger
 
 
@@ -12,20 +12,20 @@ def blocks_by_name(store):
     return {name: writes[0][0][0] for name, writes in store.changes}
 
 
-def block_masks(store):
+def block_masks(frame):
     """For each block of the changes of a store, ascending, the mask of its changes."""
-    masks = {block: 0 for block in store.blocks}
-    for name, writes in store.changes:
+    masks = {}
+    for name, writes in frame.changes:
         block = writes[0][0][0]
-        masks[block] = masks[block] | (1 << store.frame.places[name])
-    return masks
+        masks[block] = masks.get(block, 0) | (1 << frame.places[name])
+    return {block: masks[block] for block in sorted(masks)}
 
 
-def whole_masks(store, masks):
+def whole_masks(frame, masks):
     """For each block the mask of the least batch lot with its changes."""
     whole = {}
     for block in masks:
-        ahead = store.frame.closure(masks[block])
+        ahead = frame.closure(masks[block])
         whole[block] = sum([mask for mask in list(masks.values()) if mask & ahead != 0])
     # All walks from block to block over the first one, over the first two and so on.
     for middle in masks:
@@ -35,13 +35,13 @@ def whole_masks(store, masks):
     return whole
 
 
-def batch_units(store):
+def batch_units(frame):
     """What a batch lot has together: `(own, need, count)`, each behind those whose changes it needs.
 
     Blocks that stand behind one another are one unit.
     """
-    masks = block_masks(store)
-    whole = whole_masks(store, masks)
+    masks = block_masks(frame)
+    whole = whole_masks(frame, masks)
     units = []
     for most in sorted({whole[block] for block in masks}):
         own = sum([masks[block] for block in masks if whole[block] == most])
@@ -49,12 +49,12 @@ def batch_units(store):
     return [(own, need, len(places_in(own))) for _, need, own in sorted(units)]
 
 
-def batch_masks(store):
+def batch_masks(frame):
     """Yield all batch lots as masks, in the order of lots."""
-    units = batch_units(store)
+    units = batch_units(frame)
     # By how many changes they have: the lots that are found, and the first unit that may join each of them.
     waiting = {0: [(0, 0)]}
-    for count in range(len(store) + 1):
+    for count in range(len(frame.names) + 1):
         level = waiting.pop(count, [])
         for mask, first in level:
             for at in range(first, len(units)):
@@ -66,8 +66,9 @@ def batch_masks(store):
 
 def batch_lots(store):
     """Yield all lots that have of each block all changes or none, in the order of lots."""
-    for mask in batch_masks(store):
-        yield store.frame.names_in(mask)
+    frame = store.frame
+    for mask in batch_masks(frame):
+        yield frame.names_in(mask)
 
 
 def parts_of(row):
@@ -99,9 +100,9 @@ def missing_need(edit):
     If there is none, each batch line leads to a lot. That has the same content: of a block it has all changes, as in
     the memories, which are alike, or none; and the same kept names, as these are in blocks of both stores.
     """
-    masks = block_masks(edit.before)
-    later = block_masks(edit.after)
-    whole, left = whole_masks(edit.before, masks), whole_masks(edit.after, later)
+    before, after = edit.before.frame, edit.after.frame
+    masks, later = block_masks(before), block_masks(after)
+    whole, left = whole_masks(before, masks), whole_masks(after, later)
     for block in masks:
         for other in masks:
             if other != block and whole[block] & masks[other] != 0:
@@ -119,9 +120,10 @@ def need_stranger(edit, block, other):
     cells = {late: free_cell_in(edit.before, block), early: free_cell_in(edit.before, other)}
     disk = tuple(sorted([(cells[late], 0), (cells[early], 0)]))
     names = [late]
-    masks = block_masks(edit.after)
+    after = edit.after.frame
+    masks = block_masks(after)
     if block in masks:
-        names = names + list(edit.after.frame.names_in(whole_masks(edit.after, masks)[block]))
+        names = names + list(after.names_in(whole_masks(after, masks)[block]))
     changes = tuple([(name, ((cells[name], 1),)) for name in (late, early)])
     return "lot", (disk, changes, ()), tuple(sorted(names))
 
@@ -139,25 +141,28 @@ def examine_batch(edit):
     return "lines", batch_lines(edit)
 
 
-def is_batch_lot(store, thing):
-    """Whether a value is a batch lot of a store."""
-    mask = mask_in(store.frame, thing)
-    return mask is not None and all([part & mask in (0, part) for part in list(block_masks(store).values())])
+def batch_mask_in(frame, thing):
+    """The mask of a value that is a batch lot of the store of a frame, otherwise None."""
+    mask = mask_in(frame, thing)
+    if mask is None or not all([part & mask in (0, part) for part in list(block_masks(frame).values())]):
+        return None
+    return mask
 
 
-def has_batch_content(store, wanted):
-    """Whether a batch lot of a store has a content."""
-    masks = block_masks(store)
+def has_batch_content(frame, wanted):
+    """Whether a batch lot of the store of a frame has a content."""
+    masks = block_masks(frame)
     had = barred = 0
-    for (cell, value), (_, first), (_, last) in zip(wanted, store.disk, store.memory):
+    for cell, value in wanted:
+        line = frame.lines[cell]
         mask = masks.get(cell[0], 0)
-        if value != first:
+        if value != line[0][1]:
             if mask == 0:
                 return False
             had = had | mask
-        if value != last:
+        if value != line[-1][1]:
             barred = barred | mask
-    whole = whole_masks(store, masks)
+    whole = whole_masks(frame, masks)
     needed = [whole[block] for block in masks if masks[block] & had != 0]
     return all([mask & barred == 0 for mask in needed])
 
@@ -168,7 +173,8 @@ def batch_stranger_holds(edit, thing):
         return stranger_holds(edit, thing)
     if thing[0] != "lot":
         return False
-    before, after = stores_around(edit, thing[1])
-    if before is None or after is None or not is_batch_lot(after, thing[2]):
+    before, after = frames_around(edit, thing[1])
+    if before is None or after is None:
         return False
-    return not has_batch_content(before, content(after, thing[2]))
+    mask = batch_mask_in(after, thing[2])
+    return mask is not None and not has_batch_content(before, after.content(mask))

@@ -31,6 +31,14 @@ def rows_are_tied(changes, ties):
     return True
 
 
+def are_good_ties(ties, added):
+    """Whether the two names of each tie are distinct, and at least one of them is added."""
+    for later, earlier in ties:
+        if later == earlier or (later not in added and earlier not in added):
+            return False
+    return True
+
+
 class Context:
     """Cells and changes that are added to a store, and ties of these changes."""
 
@@ -45,7 +53,12 @@ class Context:
         self.changes = changes
         self.ties = ties
         self.parts = (disk, changes, ties)
-        self._has_rows = rows_are_tied(changes, ties)
+        own = {cell: True for cell, _ in disk}
+        added = {name: True for name, _ in changes}
+        # What the added changes ask of a store, and whether there can be a store that the context suits.
+        self.cells_asked = [cell for _, writes in changes for cell, _ in writes if cell not in own]
+        self.names_asked = [name for tie in ties for name in tie if name not in added]
+        self.is_sound = are_good_ties(ties, added) and rows_are_tied(changes, ties)
 
     @classmethod
     def nothing(cls):
@@ -62,40 +75,49 @@ class Context:
         """Whether it suits a store and kept names."""
         if not are_names_in(kept, store):
             return False
-        if not (self._is_apart_from(store) and self._writes_known_cells(store)):
-            return False
-        return self._has_good_ties(kept) and self._has_rows
+        return self.suits_kept(store, kept) and self.suits_names(store)
 
-    def _is_apart_from(self, store):
-        known = {cell: True for cell in store.cells}
-        if any([cell in known for cell, _ in self.disk]):
+    def suits_kept(self, store, kept):
+        """Whether it suits the cells of a store and kept names of it."""
+        if not self.is_sound:
             return False
-        return not any([name in store for name, _ in self.changes])
-
-    def _writes_known_cells(self, store):
-        known = {cell: True for cell in store.cells}
+        lines = store.frame.lines
         for cell, _ in self.disk:
-            known[cell] = True
-        return all([cell in known for _, writes in self.changes for cell, _ in writes])
-
-    def _has_good_ties(self, kept):
-        added = {name: True for name, _ in self.changes}
-        for later, earlier in self.ties:
-            if later == earlier or (later not in added and earlier not in added):
+            if cell in lines:
                 return False
-            if not all([name in added or name in kept for name in (later, earlier)]):
+        for cell in self.cells_asked:
+            if cell not in lines:
+                return False
+        for name in self.names_asked:
+            if name not in kept:
                 return False
         return True
+
+    def suits_names(self, store):
+        """Whether none of the added names is a name of a store."""
+        places = store.frame.places
+        for name, _ in self.changes:
+            if name in places:
+                return False
+        return True
+
+    def parts_around(self, store):
+        """The disk, the changes and the ties of a store in this context, which suits it."""
+        frame = store.frame
+        ends = []
+        for name, writes in self.changes:
+            for cell, _ in writes:
+                if cell in frame.lines:
+                    place = frame.lines[cell][-1][0]
+                    if place >= 0:
+                        # The last one of a row stands behind the whole row.
+                        ends.append((name, frame.names[~place]))
+        disk = tuple(sorted(store.disk + self.disk))
+        return disk, store.changes + self.changes, store.ties + self.ties + tuple(ends)
 
     def around(self, store, kept):
         """The store in this context."""
         if not self.suits(store, kept):
             raise NoContext("suits")
-        ends = []
-        for name, writes in self.changes:
-            for cell, _ in writes:
-                if cell in store.cells and len(store.row(cell)) > 0:
-                    # The last one of a row stands behind the whole row.
-                    ends.append((name, store.row(cell)[-1]))
-        disk = tuple(sorted(store.disk + self.disk))
-        return Store(disk, store.changes + self.changes, store.ties + self.ties + tuple(ends))
+        disk, changes, ties = self.parts_around(store)
+        return Store(disk, changes, ties)

@@ -99,6 +99,10 @@ class Frame:
         """The content of a lot."""
         return tuple([(cell, self.lines[cell][self.count_in(cell, mask)][1]) for cell in self.cells])
 
+    def whole_content(self):
+        """The content of the lot of all changes."""
+        return tuple([(cell, self.lines[cell][-1][1]) for cell in self.cells])
+
     def is_done(self, cell, mask):
         """Whether a cell is done in a lot."""
         # The last change of a row has all others before it.

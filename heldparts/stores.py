@@ -30,7 +30,7 @@ class Store:
         self.names = frame.names
         self.blocks = tuple(sorted({writes[0][0][0] for _, writes in self.changes}))
         self.ties = ties_in(frame)
-        self.memory = tuple([(cell, frame.lines[cell][-1][1]) for cell in self.cells])
+        self.memory = frame.whole_content()
         self.text = store_text(disk, self.changes, self.ties)
 
     @classmethod

@@ -3,14 +3,21 @@
 from heldparts.answers import least_lots
 from heldparts.codes import Coder, Names, values_in
 from heldparts.contexts import Context
-from heldparts.errors import NoContext, Ring
+from heldparts.errors import NoContext, Ring, TooMany
 from heldparts.fitting import least_from
-from heldparts.lots import content, is_lot
+from heldparts.frames import Frame
+from heldparts.lots import mask_in
+
+# So many lots are listed at any rate, as this is sooner done than to ask which ones there may be.
+FEW = 20
 
 
 def suits_edit(context, edit):
     """Whether a context suits an edit."""
-    return context.suits(edit.before, edit.kept) and context.suits(edit.after, edit.kept)
+    # Both stores have the same cells, and the kept names are names of both.
+    if not context.suits_kept(edit.before, edit.kept):
+        return False
+    return context.suits_names(edit.before) and context.suits_names(edit.after)
 
 
 def context_in(thing):
@@ -24,29 +31,31 @@ def context_in(thing):
     return context
 
 
-def store_around(context, store, kept):
-    """The store in a context that suits it, or None if the context closes a ring."""
+def frame_around(context, store):
+    """The frame of a store in a context that suits it, or None if the context closes a ring."""
+    disk, changes, ties = context.parts_around(store)
     try:
-        around = context.around(store, kept)
+        frame = Frame(disk, changes, ties)
     except Ring:
         return None
-    return around
+    return frame
 
 
-def leaves_new(before, after, lot):
-    """Whether a lot of one store has a content that no lot of another one has."""
-    return least_from(before.frame, content(after, lot), 0) is None
-
-
-def stores_around(edit, thing):
-    """The stores of an edit in the context with the parts that a value is.
+def frames_around(edit, thing):
+    """The frames of the stores of an edit in the context with the parts that a value is.
 
     Each is None if the context closes a ring with it; both are None if the value is no context that suits the edit.
     """
     context = context_in(thing)
     if context is None or not suits_edit(context, edit):
         return None, None
-    return store_around(context, edit.before, edit.kept), store_around(context, edit.after, edit.kept)
+    return frame_around(context, edit.before), frame_around(context, edit.after)
+
+
+def leaves_new(before, after, lot):
+    """Whether a value is a lot of one store with a content that no lot of another one has."""
+    mask = mask_in(after, lot)
+    return mask is not None and least_from(before, after.content(mask), 0) is None
 
 
 def stranger_holds(edit, thing):
@@ -57,32 +66,43 @@ def stranger_holds(edit, thing):
         return False
     if thing[0] != ("ring" if len(thing) == 2 else "lot"):
         return False
-    before, after = stores_around(edit, thing[1])
+    before, after = frames_around(edit, thing[1])
     if len(thing) == 2:
         return (before is None) != (after is None)
-    return before is not None and after is not None and is_lot(after, thing[2]) and leaves_new(before, after, thing[2])
+    return before is not None and after is not None and leaves_new(before, after, thing[2])
+
+
+def contents_known(coder, frame, codes):
+    """The contents that lots of the store of a frame have, as keys of a dict.
+
+    If it has far more lots than there are integers, these are contents of the integers up to the first one that it does
+    not have.
+    """
+    mask = coder.key_mask
+    try:
+        others = coder.codes(frame, 2 * len(codes) + FEW)
+    except TooMany:
+        contents = list({code & mask: True for code in sorted(codes)})
+        return {code: True for code, lot in zip(contents, least_lots(coder, frame, contents)) if lot is not None}
+    return {code & mask: True for code in others}
 
 
 def noticed_by(edit, context, *, limit=500):
     """How a context notices an edit, or None if it does not."""
     if not suits_edit(context, edit):
         raise NoContext("suits")
-    before = store_around(context, edit.before, edit.kept)
-    after = store_around(context, edit.after, edit.kept)
+    before, after = frame_around(context, edit.before), frame_around(context, edit.after)
     if before is None or after is None:
         return None if before is None and after is None else ("ring",)
-    if before.memory != after.memory:
+    if any([before.lines[cell][-1][1] != after.lines[cell][-1][1] for cell in before.cells]):
         return ("memory",)
-    coder = Coder(before.cells, (), values_in(before.frame, after.frame))
-    codes = sorted(coder.codes(after.frame, limit))
-    contents = [code & coder.key_mask for code in codes]
-    # Each content once, by the first lot that has it.
-    known = list({code: True for code in contents})
-    masks = least_lots(coder, before.frame, known)
-    if masks[-1] is not None:
+    coder = Coder(before.cells, (), values_in(before, after))
+    codes = coder.codes(after, limit)
+    known = contents_known(coder, before, codes)
+    new = [code for code in codes if code & coder.key_mask not in known]
+    if len(new) == 0:
         return None
-    first = contents.index(known[len(masks) - 1])
-    return "lot", Names(after.names).of_codes([codes[first]], coder.top)[0]
+    return "lot", Names(after.names).of_codes([min(new)], coder.top)[0]
 
 
 def written_part(disk, changes):
