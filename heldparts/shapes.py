@@ -47,9 +47,12 @@ class Shapes:
         self.blocks = [writes[0][0][0] for _, writes in store.changes[::-1]]
         # What a part writes depends on nothing but the changes that it was made of, as do the bits of its cells.
         self.known = {}
+        self.numbers = {}
+        # Where the parts are that can be joined or left out, for each pattern of shapes.
+        self.choices = {}
 
     def written(self, mask):
-        """What a part writes, and what can be shown of it: bits for a kept name and for its cells."""
+        """What a part writes, what can be shown of it, bits for a kept name and for its cells; and a number for it."""
         if mask not in self.known:
             writes = []
             shown = mask & self.kept_mask
@@ -58,7 +61,8 @@ class Shapes:
                 if len(last) > 0:
                     writes.append((cell, last[0]))
                     shown = shown | (1 << (len(self.blocks) + at))
-            self.known[mask] = (tuple(writes), shown)
+            number = self.numbers.setdefault(tuple(writes), len(self.numbers))
+            self.known[mask] = (tuple(writes), shown, number)
         return self.known[mask]
 
     def store_of(self, shape):
@@ -76,7 +80,7 @@ class Shapes:
         found = []
         for row in choices:
             taken = sum(row)
-            parts = [(name, self.written(mask)[0], ahead & taken) for name, (mask, ahead) in zip(row, shape)]
+            parts = [(name, self.written(mask)[2], ahead & taken) for name, (mask, ahead) in zip(row, shape)]
             found.append(tuple(sorted(parts)))
         return found
 
@@ -104,31 +108,60 @@ class Shapes:
             found.append(every)
         return found
 
+    def pattern(self, shape):
+        """A value that tells all of a shape but which changes its parts were made of, and the parts in its order."""
+        rows = []
+        for mask, ahead in shape:
+            count = len([True for other, _ in shape if other & ahead != 0])
+            rows.append((count, self.written(mask)[2], mask & self.kept_mask, mask, ahead))
+        rows = sorted(rows)
+        value = []
+        for _, number, kept, _, ahead in rows:
+            value.append((number, kept, sum([1 << at for at, row in enumerate(rows) if row[3] & ahead != 0])))
+        return tuple(value), tuple([(mask, ahead) for _, _, _, mask, ahead in rows])
+
     def leads(self, shape):
         """The unnoticed joins and drops of a shape, as `(masks, shape)` with the two or the one that it is about."""
-        free = [at for at, (mask, _) in enumerate(shape) if mask & self.kept_mask == 0]
-        shown = self.shows(shape)
-        allowed = self.allows(shape, shown)
+        value, parts = self.pattern(shape)
+        if value not in self.choices:
+            self.choices[value] = self.drops_of(parts) + self.joins_of(parts)
         found = []
-        for at in free:
-            if self.can_drop(shape, at, shown):
-                found.append(((shape[at][0],), dropped_part(shape, shape[at])))
-            for other in free:
-                # A join is unnoticed if the shown pairs stay the same.
-                if other < at and shown[other] & ~allowed[at] == 0 and shown[at] & ~allowed[other] == 0:
-                    masks = (shape[other][0], shape[at][0])
-                    joined = joined_parts(shape, shape[other], shape[at])
-                    if joined is not None and self.blocks[lowest(masks[0])] == self.blocks[lowest(masks[1])]:
-                        found.append((masks, joined))
+        for places in self.choices[value]:
+            first = parts[places[0]]
+            more = dropped_part(shape, first) if len(places) == 1 else joined_parts(shape, first, parts[places[1]])
+            found.append((tuple([parts[at][0] for at in places]), more))
         return found
 
-    def can_drop(self, shape, at, shown):
-        """Whether nobody notices that a part is left out."""
-        rest = dropped_part(shape, shape[at])
+    def joins_of(self, parts):
+        """The places of the parts of a shape that can be joined: the shown pairs stay the same."""
+        shown = self.shows(parts)
+        allowed = self.allows(parts, shown)
+        free = [at for at, (mask, _) in enumerate(parts) if mask & self.kept_mask == 0]
+        found = []
+        for at in free:
+            block = self.blocks[lowest(parts[at][0])]
+            for other in free:
+                if other < at and shown[other] & ~allowed[at] == 0 and shown[at] & ~allowed[other] == 0:
+                    if block == self.blocks[lowest(parts[other][0])]:
+                        if joined_parts(parts, parts[other], parts[at]) is not None:
+                            found.append((other, at))
+        return found
+
+    def drops_of(self, parts):
+        """The places of the parts of a shape that can be left out."""
+        shown = self.shows(parts)
+        before = self.store_of(parts)
+        found = []
+        for at, part in enumerate(parts):
+            if part[0] & self.kept_mask == 0 and self.shows_enough(parts, part, shown):
+                edit = Edit(before, self.store_of(dropped_part(parts, part)), self.kept)
+                if edit.examine(limit=1 << len(parts))[0] == "table":
+                    found.append((at,))
+        return found
+
+    def shows_enough(self, parts, part, shown):
+        """Whether without a part each kept change is shown before all that it was shown before."""
+        rest = dropped_part(parts, part)
         left = self.shows(rest)
-        others = [place for place in range(len(shape)) if place != at]
-        for (mask, _), place, bits in zip(rest, others, left):
-            if mask & self.kept_mask != 0 and shown[place] != bits:
-                return False
-        edit = Edit(self.store_of(shape), self.store_of(rest), self.kept)
-        return edit.examine(limit=1 << len(shape))[0] == "table"
+        stay = [bits for other, bits in zip(parts, shown) if other != part]
+        return all([mask & self.kept_mask == 0 or had == bits for (mask, _), had, bits in zip(rest, stay, left)])
