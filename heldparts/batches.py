@@ -1,5 +1,6 @@
 """Batches, in which each block is written once, as a whole."""
 
+from heldparts.codes import Names
 from heldparts.edits import shown_pairs
 from heldparts.lots import mask_in
 from heldparts.orders import places_in
@@ -49,8 +50,8 @@ def batch_units(frame):
     return [(own, need, len(places_in(own))) for _, need, own in sorted(units)]
 
 
-def batch_masks(frame):
-    """Yield all batch lots as masks, in the order of lots."""
+def batch_levels(frame):
+    """Yield lists of the masks of batch lots with equally many changes, in the order of lots."""
     units = batch_units(frame)
     # By how many changes they have: the lots that are found, and the first unit that may join each of them.
     waiting = {0: [(0, 0)]}
@@ -61,14 +62,15 @@ def batch_masks(frame):
                 own, need, more = units[at]
                 if need & ~mask == 0:
                     waiting.setdefault(count + more, []).append((mask | own, at + 1))
-        yield from sorted([mask for mask, _ in level], reverse=True)
+        yield sorted([mask for mask, _ in level], reverse=True)
 
 
 def batch_lots(store):
     """Yield all lots that have of each block all changes or none, in the order of lots."""
     frame = store.frame
-    for mask in batch_masks(frame):
-        yield frame.names_in(mask)
+    names = Names(frame.names)
+    for level in batch_levels(frame):
+        yield from names.tuples(level)
 
 
 def parts_of(row):

@@ -3,7 +3,7 @@
 from heldparts.errors import NoContext
 from heldparts.forms import are_changes, are_names_in, are_ties, is_content
 from heldparts.frames import earlier_places
-from heldparts.orders import reached
+from heldparts.orders import places_in, reached
 from heldparts.stores import Store
 
 
@@ -25,9 +25,13 @@ def rows_are_tied(changes, ties):
     own = [(later, earlier) for later, earlier in ties if later in places and earlier in places]
     masks = reached(earlier_places(places, own))
     for row in rows:
-        for at, place in enumerate(row):
-            if not all([((masks[place] >> other) | (masks[other] >> place)) & 1 == 1 for other in row[:at]]):
+        there = 0
+        for place in row:
+            # Of those that do not stand before it each must stand behind it.
+            others = places_in(there & ~masks[place])
+            if not all([(masks[other] >> place) & 1 == 1 for other in others]):
                 return False
+            there = there | (1 << place)
     return True
 
 

@@ -95,7 +95,7 @@ def spelled_out(frame, steps):
         told.append(step)
         if step[0] != "never":
             place = frame.places[step[1]]
-            for other in places_in(frame.masks[place] & ~mask):
+            for other in places_in(frame.masks[place] & ~mask)[::-1]:
                 told.append(("before", frame.names[~other], step[1]))
             mask = mask | frame.upto[place]
     return told

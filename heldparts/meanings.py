@@ -72,7 +72,7 @@ class Course:
             self.made = self.made + 1
             ends = [self.lasts[cell] for cell, _ in writes if cell in self.lasts]
             ends = ends + [self.holding[other] for other in after if other in self.holding]
-            self.ties = self.ties + [(name, other) for other in ends]
+            self.ties.extend([(name, other) for other in ends])
             self.changes.append((name, writes))
             for cell, _ in writes:
                 self.lasts[cell] = name
