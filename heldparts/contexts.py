@@ -18,13 +18,13 @@ def shared_rows(changes):
 
 def rows_are_tied(changes, ties):
     """Whether of two added changes that write the same cell one comes behind the other by ties of added ones alone."""
-    rows = shared_rows(changes)
-    if len(rows) == 0:
+    cells = [cell for _, writes in changes for cell, _ in writes]
+    if len({cell for cell in cells}) == len(cells):
         return True
     places = {name: at for at, (name, _) in enumerate(changes)}
     own = [(later, earlier) for later, earlier in ties if later in places and earlier in places]
     masks = reached(earlier_places(places, own))
-    for row in rows:
+    for row in shared_rows(changes):
         there = 0
         for place in row:
             # Of those that do not stand before it each must stand behind it.

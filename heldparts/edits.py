@@ -60,11 +60,11 @@ class Edit:
         codes = sorted(codes)
         masks = least_lots(coder, before, codes)
         names = Names(after.names)
-        lots = names.of_codes(codes[:len(masks)], coder.top)
+        found = names.of_codes(codes[:len(masks)], coder.top)
         if masks[-1] is None:
-            return lot_stranger(self.before, self.after, self.kept, lots[-1], coder.done_in(codes[len(masks) - 1]))
-        others = names if before.names == after.names else Names(before.names)
-        return "table", tuple(zip(lots, others.tuples(masks)))
+            return lot_stranger(self.before, self.after, self.kept, found[-1], coder.done_in(codes[len(masks) - 1]))
+        had = names if before.names == after.names else Names(before.names)
+        return "table", tuple(zip(found, had.tuples(masks)))
 
     def then(self, other):
         """This edit and another one that follows it, as one edit."""

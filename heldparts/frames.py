@@ -8,15 +8,6 @@ from heldparts.errors import NoStore, Ring
 from heldparts.orders import places_in, ring_in, settled
 
 
-def check_cells(disk, changes):
-    """Raise an error if a change writes a cell that is not on the disk."""
-    known = {cell: True for cell, _ in disk}
-    for _, writes in changes:
-        for cell, _ in writes:
-            if cell not in known:
-                raise NoStore("cell")
-
-
 def earlier_places(places, ties):
     """For each place a list of those that ties put before it."""
     found = [[] for _ in places]
@@ -40,10 +31,12 @@ def lines_of(disk, changes, order):
 
 
 class Frame:
-    """The changes of a store by their places: all of a store but what only others ask for."""
+    """The changes of a store by their places: all of a store but what only others ask for.
+
+    That changes write only cells of the disk, and that all rows are in order, is not looked at.
+    """
 
     def __init__(self, disk, changes, ties):
-        check_cells(disk, changes)
         self.cells = tuple([cell for cell, _ in disk])
         self.changes = tuple(sorted(changes))
         self.names = tuple([name for name, _ in self.changes])
@@ -58,16 +51,6 @@ class Frame:
         # With each change all that stands before it; the last one stands for no change, which has place -1.
         self.upto = [mask | (1 << at) for at, mask in enumerate(self.masks)] + [0]
         self.lines = lines_of(disk, self.changes, self.order)
-        self._check_rows()
-
-    def _check_rows(self):
-        # In a row that is put in order, neighbours that are tied tie all others.
-        for cell in self.cells:
-            line = self.lines[cell]
-            if len(line) > 2:
-                for at in range(2, len(line)):
-                    if (self.masks[line[at][0]] >> line[at - 1][0]) & 1 == 0:
-                        raise NoStore("row")
 
     def mask_of(self, names):
         """The mask of these names, which may be repeated."""

@@ -93,10 +93,11 @@ def break_holds(module, thing):
     """Whether a value is a break of a module."""
     if not (is_pair(thing) and is_row(module, thing[0])):
         return False
-    store = history(module, *thing[0])
-    if not is_lot(store, thing[1]):
+    row, lot = thing
+    store = history(module, *row)
+    if not is_lot(store, lot):
         return False
-    return not promise_holds(module, content(store, thing[1]), past_of(module, thing[0]))
+    return not promise_holds(module, content(store, lot), past_of(module, row))
 
 
 def breaking_lots(module, *row):
@@ -112,8 +113,8 @@ def breaking_lots(module, *row):
             key = code & coder.key_mask
             if key not in known:
                 known[key] = promise_holds(module, coder.content(code), past)
-        broken = [code for code in level if not known[code & coder.key_mask]]
-        yield from names.of_codes(broken, coder.top)
+        wrong = [code for code in level if not known[code & coder.key_mask]]
+        yield from names.of_codes(wrong, coder.top)
 
 
 def body_without(body, at):

@@ -139,8 +139,8 @@ class Keeper:
                 for code in level:
                     if code & own not in known:
                         known[code & own] = promise_holds(module, coder.content(code), self.pasts[at])
-                broken = [code for code in level if not known[code & own]]
-                for lot in names.of_codes(broken, coder.top):
+                wrong = [code for code in level if not known[code & own]]
+                for lot in names.of_codes(wrong, coder.top):
                     yield at, lot
 
     def trial(self):

@@ -1,9 +1,29 @@
 """Stores: a disk, the changes that wait for it, and the order in which they may reach it."""
 
 from heldparts.errors import InvalidText, NoStore, NoWrite, Ring
-from heldparts.frames import Frame, check_cells
+from heldparts.frames import Frame
 from heldparts.orders import places_in
 from heldparts.texts import parts_in, store_text
+
+
+def check_cells(disk, changes):
+    """Raise an error if a change writes a cell that is not on the disk."""
+    known = {cell: True for cell, _ in disk}
+    for _, writes in changes:
+        for cell, _ in writes:
+            if cell not in known:
+                raise NoStore("cell")
+
+
+def check_rows(frame):
+    """Raise an error if of two changes that write the same cell none stands before the other."""
+    # In a row that is put in order, neighbours that are tied tie all others.
+    for cell in frame.cells:
+        line = frame.lines[cell]
+        if len(line) > 2:
+            for at in range(2, len(line)):
+                if (frame.masks[line[at][0]] >> line[at - 1][0]) & 1 == 0:
+                    raise NoStore("row")
 
 
 def ties_in(frame):
@@ -22,7 +42,9 @@ class Store:
     MOST = 12
 
     def __init__(self, disk, changes, ties):
+        check_cells(disk, changes)
         frame = Frame(disk, changes, ties)
+        check_rows(frame)
         self.frame = frame
         self.disk = disk
         self.cells = frame.cells

@@ -1,7 +1,7 @@
 """Strangers, who notice an edit."""
 
 from heldparts.answers import least_lots
-from heldparts.codes import Coder, Names, values_in
+from heldparts.codes import Coder, values_in
 from heldparts.contexts import Context
 from heldparts.errors import NoContext, Ring, TooMany
 from heldparts.fitting import least_from
@@ -102,7 +102,9 @@ def noticed_by(edit, context, *, limit=500):
     new = [code for code in codes if code & coder.key_mask not in known]
     if len(new) == 0:
         return None
-    return "lot", Names(after.names).of_codes([min(new)], coder.top)[0]
+    # The bits for changes tell which ones a lot does not have.
+    every = (1 << len(after.names)) - 1
+    return "lot", after.names_in(every & ~(min(new) >> coder.top))
 
 
 def written_part(disk, changes):

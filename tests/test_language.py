@@ -179,3 +179,51 @@ class TestLanguage(unittest.TestCase):
                 self.assertNotEqual(node.func.attr, "sort", path)
             if isinstance(node, (ast.For, ast.comprehension)):
                 self.assertNotIsInstance(node.iter, (ast.Set, ast.SetComp), path)
+
+    def test_generators_have_names_of_their_own(self):
+        named = {}
+        for path, node in self.nodes:
+            if isinstance(node, ast.FunctionDef):
+                named.setdefault(node.name, []).append((path, node))
+        for name, places in named.items():
+            if any(isinstance(part, (ast.Yield, ast.YieldFrom)) for _, node in places for part in ast.walk(node)):
+                self.assertEqual(len(places), 1, name)
+        for path, node in self.nodes:
+            if isinstance(node, ast.Name) and isinstance(node.ctx, ast.Store):
+                self.assertFalse(any(
+                    isinstance(part, (ast.Yield, ast.YieldFrom)) for _, function in named.get(node.id, ())
+                    for part in ast.walk(function)), (path, node.lineno))
+
+    def test_behind_stars_stand_names(self):
+        plain = (ast.Name, ast.Attribute, ast.Constant)
+        for path, node in self.nodes:
+            if isinstance(node, ast.Call) and any(isinstance(part, ast.Starred) for part in node.args):
+                first = next(at for at, part in enumerate(node.args) if isinstance(part, ast.Starred))
+                for part in node.args[first:]:
+                    self.assertIsInstance(part.value if isinstance(part, ast.Starred) else part, plain, (path, node.lineno))
+                self.assertEqual(node.keywords, [], (path, node.lineno))
+
+    def test_what_is_iterated_at_once(self):
+        heads = {id(node.iter) for _, node in self.nodes if isinstance(node, (ast.For, ast.comprehension))}
+        inner = {id(part) for _, node in self.nodes if isinstance(node, ast.Call) and isinstance(node.func, ast.Name)
+                 and node.func.id in ("list", "tuple", "dict", "sorted", "enumerate", "zip", "len") for part in node.args}
+        for path, node in self.nodes:
+            if isinstance(node, ast.Call):
+                name = getattr(node.func, "id", getattr(node.func, "attr", ""))
+                if name in ("zip", "enumerate", "reversed", "range", "items", "keys", "values"):
+                    self.assertIn(id(node), heads | inner, (path, node.lineno))
+
+    def test_where_sets_stand(self):
+        for path, node in self.nodes:
+            if isinstance(node, ast.Call):
+                sets = [part for part in node.args if isinstance(part, (ast.Set, ast.SetComp))]
+                if sets:
+                    self.assertIn(node.func.id, ("sorted", "len"))
+                    self.assertEqual(node.keywords, [], (path, node.lineno))
+            elif not isinstance(node, (ast.Compare, ast.Expr)):
+                for part in ast.iter_child_nodes(node):
+                    self.assertNotIsInstance(part, (ast.Set, ast.SetComp), (path, getattr(node, "lineno", 0)))
+            if isinstance(node, ast.Compare):
+                for operator, part in zip(node.ops, node.comparators):
+                    if isinstance(operator, (ast.Is, ast.IsNot)):
+                        self.assertIn(part.value, (None, True, False), (path, node.lineno))
