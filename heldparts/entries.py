@@ -88,26 +88,27 @@ def names_told(kept, keys):
 
 
 def some_done(coder, cells, codes):
-    """For integers the tuples of those of some cells that are done, and their texts with a blank before each cell."""
-    bits = [(1 << coder.shifts[cell], cell, " " + cell_text(cell)) for cell in cells]
+    """For integers the tuples of those of some cells that are done, and their texts."""
+    bits = [(1 << coder.shifts[cell], cell, cell_text(cell)) for cell in cells]
     mask = sum([bit for bit, _, _ in bits])
     parts = [code & mask for code in codes]
     found, texts = {}, {}
     for part in parts:
         if part not in found:
-            found[part] = tuple([cell for bit, cell, _ in bits if part & bit != 0])
-            texts[part] = "".join([text for bit, _, text in bits if part & bit != 0])
+            done = [(cell, text) for bit, cell, text in bits if part & bit != 0]
+            found[part] = tuple([cell for cell, _ in done])
+            texts[part] = " ".join([text for _, text in done])
     return [found[part] for part in parts], [texts[part] for part in parts]
 
 
 def done_told(coder, codes):
-    """The cells that are done for integers, and the last parts of their lines."""
+    """The cells that are done for integers, and their texts."""
     found, texts = some_done(coder, coder.cells[:GROUP], codes)
     for at in range(GROUP, len(coder.cells), GROUP):
         more, others = some_done(coder, coder.cells[at:at + GROUP], codes)
         found = [cells + rest for cells, rest in zip(found, more)]
-        texts = [text + rest for text, rest in zip(texts, others)]
-    return found, [text[1:] for text in texts]
+        texts = [text + " " + rest if text and rest else text + rest for text, rest in zip(texts, others)]
+    return found, texts
 
 
 def entries_of(frame, kept, limit):
